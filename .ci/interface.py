@@ -1,0 +1,22 @@
+"""Which functions, classes and methods of the document stand in which file, as far as they have landed."""
+
+INTERFACE = {
+    "fallorflow.errors": (
+        "FlowError InvalidForm InvalidRows InvalidSystem InvalidKeep InvalidChoice InvalidClaim InvalidText InvalidOperation "
+        "ParseError InvalidNumber UnknownName NothingToUndo TooMany Refused").split(),
+    "fallorflow.base.forms": (
+        "MOST_UNKNOWNS MOST_ROWS is_form are_rows value_at lowest plus times opposite put_in moved form_text").split(),
+    "fallorflow.lots.rows": (
+        "MOST_SIGNED point_or_bar follows least bare is_bare is_point is_bar is_sum is_fall solved best is_solution is_clash").split(),
+    "fallorflow.rules.system": (
+        "MAX_FUNCTIONS MAX_RULES MAX_PARAMETERS MAX_UNKNOWNS MAX_CALLS MAX_GUARD MAX_COST MAX_FACTOR MAX_KEPT system_fault System "
+        "System.__init__ System.functions System.rules System.start_rows System.__eq__ System.__str__ edges source goal arguments "
+        "parts reached is_keep empty_keep rows_ahead edge_rows").split(),
+    "fallorflow.rules.made": "without permuted beside".split(),
+    "fallorflow.rules.machine": (
+        "MOST_CHOICES MAX_STRETCH MAX_DEEP Standing Standing.__init__ Standing.system Standing.call Standing.pile Standing.cost "
+        "Standing.steps Standing.result Standing.after Standing.__eq__ Standing.__str__ run is_run each_run entered ended tally").split(),
+    "fallorflow.texts.programs": "is_program".split(),
+    "fallorflow.texts.spoken": "spoken".split(),
+    "fallorflow.texts.lead": "system_of full_inputs choices_of outside_of".split(),
+}

@@ -1,0 +1,1 @@
+"""Fallorflow: does it end, at what cost, and what shows it."""

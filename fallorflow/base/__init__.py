@@ -1,0 +1,1 @@
+"""Forms, and what is asked of numbers everywhere."""

@@ -1,0 +1,1 @@
+"""Lots of rows: points and bars, sums, least values."""

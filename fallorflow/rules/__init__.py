@@ -1,0 +1,1 @@
+"""Systems of functions and rules, and the plain machine that runs them."""

@@ -1,0 +1,42 @@
+"""Ways along arrows between places: what is reached, and what is on rings."""
+
+
+def _led_to(arrows):
+    found = {}
+    for source, goal in arrows:
+        found.setdefault(source, []).append(goal)
+    return found
+
+
+def _spread(start, led_to):
+    found = {start: True}
+    ahead = [start]
+    while ahead:
+        for goal in led_to.get(ahead.pop(), []):
+            if goal not in found:
+                found[goal] = True
+                ahead.append(goal)
+    return found
+
+
+def reached_from(start, arrows):
+    """The start and all places that rows of arrows lead to from it, ascending."""
+    return sorted(_spread(start, _led_to(arrows)))
+
+
+def rings(arrows):
+    """For each arrow the number of its component of rings, None if it is on no ring.
+
+    Equal numbers are those of arrows that some ring has both.
+    """
+    led_to = _led_to(arrows)
+    ways = {}
+    for arrow in arrows:
+        for place in arrow:
+            if place not in ways:
+                ways[place] = _spread(place, led_to)
+    return [_component(source, ways) if source in ways[goal] else None for source, goal in arrows]
+
+
+def _component(place, ways):
+    return min([other for other in ways[place] if place in ways[other]])

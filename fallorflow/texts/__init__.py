@@ -1,0 +1,1 @@
+"""A small language whose programs are led to systems."""

@@ -1,0 +1,48 @@
+import os
+import unittest
+
+from fallorflow.base import forms
+from fallorflow.lots import rows
+from fallorflow.rules import machine, made, system
+from fallorflow.texts import lead, programs, spoken
+from tests import examples
+
+DOCUMENT = os.path.join(os.path.dirname(__file__), "..", "..", "shared", "DOC.md")
+MODULES = [forms, rows, system, made, machine, programs, spoken, lead]
+BLOCKS = [examples.FORMS, examples.ROWS, examples.SYSTEMS, examples.RUNS, examples.PROGRAMS, examples.LATER]
+
+
+def told(code, names):
+    """What the document would show of a line."""
+    try:
+        compiled = compile(code, "example", "eval")
+    except SyntaxError:
+        exec(code, names)
+        return ""
+    try:
+        return repr(eval(compiled, names))
+    except Exception as error:
+        return f"raises {error!r}"
+
+
+class ExamplesTest(unittest.TestCase):
+    def test_all(self):
+        names = {name: value for module in MODULES for name, value in vars(module).items() if not name.startswith("_")}
+        many = 0
+        for block in BLOCKS:
+            lines = block.strip().split("\n")
+            for at, line in enumerate(lines):
+                if line.startswith(">>> "):
+                    shown = lines[at + 1] if at + 1 < len(lines) and not lines[at + 1].startswith(">>> ") else ""
+                    self.assertEqual(told(line[4:], names), shown, line)
+                    many += 1
+        self.assertEqual(many, 36)
+
+    @unittest.skipUnless(os.path.exists(DOCUMENT), "the document is not here")
+    def test_they_stand_in_the_document(self):
+        with open(DOCUMENT, encoding="utf-8") as file:
+            lines = file.read().split("\n")
+        for block in BLOCKS:
+            if block is not examples.PROGRAMS:
+                for line in block.strip().split("\n"):
+                    self.assertIn(line, lines)
