@@ -199,6 +199,19 @@ class RunsTest(Machine):
         self.assertEqual(len(entered(deep, (), row)), 1999)
         self.assertEqual(len(ended(deep, (), row)), 1999)
 
+    def test_nothing_is_shared(self):
+        row = ((0, ()), (1, ()), (1, ()))
+        rules, made = tally(TREE, (1,), row)
+        rules[7] = 1
+        made.clear()
+        self.assertEqual(tally(TREE, (1,), row), ({0: 1, 1: 2}, {(0, 0): 1, (0, 1): 1}))
+        for call in (run, entered, ended, tally):
+            self.assertEqual(call(TREE, (1,), row), call(TREE, (1,), row))
+        wrong = [[0, []], {0: [1]}]
+        self.refuses(InvalidOperation, run, TREE, (1,), wrong)
+        self.refuses(InvalidChoice, Standing(TREE, (1,)).after, wrong)
+        self.assertEqual(wrong, [[0, []], {0: [1]}])
+
     def test_nothing_entered(self):
         self.assertEqual(entered(STUCK, (4,), ()), ((None, (4,)),))
         self.assertEqual(ended(STUCK, (4,), ()), ())

@@ -71,7 +71,11 @@ class ProgramsTest(Refusing, unittest.TestCase):
                 self.no(program(given=value))
 
     def test_set(self):
-        self.yes(program(("set", 1, (MOST, -MOST, 1))))
+        self.yes(program(("set", 1, (MOST, -MOST, 1)), ("set", 0, (1, 2, 3))))
+        three = {"parameters": ("x", "y"), "inner": ("z",)}
+        self.yes(program(("set", 2, (0, 0, 0, 1)), ("any", 0, ((1, 2, 3, 4),)), **three))
+        self.no(program(("set", 3, (0, 0, 0, 1)), **three))
+        self.no(program(("set", 2, (0, 0, 1)), **three))
         self.all_wrong(lambda form: ("set", 0, form), [*near_misses((1, 2, 3)), (1, 2), (1, 2, 3, 4), (0, MOST + 1, 0), *strange()])
         self.all_wrong(lambda at: ("set", at, (1, 2, 3)), [-1, 2, *strange()])
         self.no(program(("set", 0)))
@@ -114,6 +118,7 @@ class ProgramsTest(Refusing, unittest.TestCase):
             self.yes(program(("choose", ((),) * count)))
         self.all_wrong(lambda bodies: ("choose", bodies), [(), ((),), ((),) * 5, [(), ()], {0: (), 1: ()}, *strange()])
         self.no(program(("choose", (), ())))
+        self.no(program(("choose", ((), ()), ())))
 
     def test_call(self):
         more = (("f", ("a", "b"), ("c",), ()), ("g", (), (), ()))
@@ -125,6 +130,8 @@ class ProgramsTest(Refusing, unittest.TestCase):
         wrong.extend([("call", value, (), 0) for value in strange()])
         wrong.extend([("call", 2, value, 0) for value in strange() if value != ()])
         wrong.extend([("call", 2, (), value) for value in strange() if value is not None])
+        for word in ("stop", "set", "choose", "", "CALL", None, ("call",)):
+            wrong.append((word, 2, (), None))
         for statement in wrong:
             self.no(program(statement, more=more))
 

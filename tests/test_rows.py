@@ -1,12 +1,14 @@
 import random
 import unittest
+from unittest import mock
 
 from fallorflow.errors import InvalidForm, InvalidNumber, InvalidOperation, InvalidRows
 from fallorflow.lots import rows as module
+from fallorflow.lots import simplex
 from fallorflow.lots.rows import bare, best, follows, is_bar, is_bare, is_clash, is_fall, is_point, is_solution, is_sum
 from fallorflow.lots.rows import least, point_or_bar, solved
 from tests import judging
-from tests.values import Refusing, near_lots, near_misses, odd_parts, strange
+from tests.values import Refusing, near_lots, near_misses, strange
 
 LONG = 10 ** 60 - 1
 
@@ -139,6 +141,22 @@ class DrawnRowsTest(Rows):
             seen[found] = seen.get(found, 0) + 1
         self.assertEqual(len(seen), 3)
         self.assertGreater(min(seen.values()), 100)
+
+    def test_the_patient_way(self):
+        # The rule that takes over where nothing is won ends, too, and finds the same numbers.
+        for _ in range(150):
+            many, size = self.draw.randint(1, 6), self.draw.choice([1, 3])
+            lot = through(self.draw, many, self.draw.randint(1, 16), size)
+            form = through(self.draw, many, 1, size)[0]
+            signs = tuple(self.draw.random() < 0.7 for _ in range(many))
+            found = self.look_at(many, lot, form), self.look_at_equations(signs, lot[:3], form)
+            told = least(many, lot, form)[:2], best(signs, lot[:3], form)[:2]
+            with mock.patch.object(simplex, "PATIENCE", 0):
+                self.assertEqual((self.look_at(many, lot, form), self.look_at_equations(signs, lot[:3], form)), found)
+                self.look_at_bare(many, lot)
+                for ahead, now in zip(told, (least(many, lot, form)[:2], best(signs, lot[:3], form)[:2])):
+                    if ahead[0] == "least":
+                        self.assertEqual(now, ahead)
 
     def test_equal_calls(self):
         for _ in range(50):

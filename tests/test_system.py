@@ -80,6 +80,12 @@ class FaultsTest(Refusing, unittest.TestCase):
         self.faults((("f", 1),), (wide,), ((BIG, -BIG),) * 8, None)
         self.faults((("f", 5),), ((0, 2, (), 0, ((0, ((0,) * 8,) * 5), (0, ((0,) * 9,) * 5)), (0,) * 10),), (), None)
 
+    def test_many_calls(self):
+        functions = (("f", 0), ("g", 2))
+        for count, expected in [(0, None), (1, None), (2, None), (3, ("rules", 0, "calls")), (9, ("rules", 0, "calls"))]:
+            rule = (0, 0, (), 0, ((0, ()),) * count, (0,) * (count + 1))
+            self.faults(functions, (rule,), (), expected)
+
     def test_given(self):
         for value in [*strange(), ((0, 1),) * 9]:
             if not isinstance(value, tuple) or len(value) > 8:
@@ -285,6 +291,17 @@ class KeepsTest(Refusing, unittest.TestCase):
         keep = ((((long,) * 6,) * 12,), (((long,) * 7,) * 12,))
         many, rows = rows_ahead(made, keep, 0, 2)
         self.assertEqual((many, len(rows)), (9, 12 + 8 + 24))
+
+    def test_equal_calls(self):
+        made = System(*TWO)
+        keep = ((((7, 1),), ((8, 2),)), (((1, 2, 3),), ()))
+        for call in (lambda: edges(made), lambda: parts(made, edges(made)), lambda: reached(made, edges(made)),
+                     lambda: empty_keep(made), lambda: rows_ahead(made, keep, 0, 2), lambda: arguments(made, (0, 1))):
+            self.assertEqual(call(), call())
+        wrong = [[(0, 0)], {0: 1}]
+        self.refuses(InvalidSystem, parts, made, wrong)
+        self.refuses(InvalidKeep, edge_rows, made, wrong, (0, 0))
+        self.assertEqual((wrong, system_fault(wrong, wrong, wrong)), ([[(0, 0)], {0: 1}], ("functions",)))
 
     def test_small(self):
         self.assertEqual(rows_ahead(SMALL, empty_keep(SMALL), 0, 1), (2, ((-1, 1, 0),)))

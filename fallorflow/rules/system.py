@@ -1,6 +1,6 @@
 """Systems of functions and rules, their call edges, keeps, and rows ahead of calls."""
-from fallorflow.base.checks import is_from, is_lot
-from fallorflow.base.plain import grown, put, unit, units
+from fallorflow.base.checks import is_ascending, is_from, is_lot
+from fallorflow.base.plain import grown, put, unit
 from fallorflow.errors import InvalidKeep, InvalidNumber, InvalidSystem
 from fallorflow.rules.faults import functions_fault, given_fault, rules_fault
 from fallorflow.rules.ways import reached_from, rings
@@ -111,7 +111,7 @@ def check_edges(system, edges):
     """Refuse what is no ascending tuple of call edges of the system."""
     if not isinstance(edges, tuple) or not all([_is_edge(system, edge) for edge in edges]):
         raise InvalidSystem("not a tuple of call edges of the system")
-    if not all([edges[at] < edges[at + 1] for at in range(len(edges) - 1)]):
+    if not is_ascending(edges):
         raise InvalidSystem("the call edges are not ascending")
 
 

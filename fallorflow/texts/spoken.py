@@ -23,8 +23,8 @@ class Work:
         self.used = 0
         self.frames = []
         self.taken = []
-        self.cost = 0
-        self.result = None
+        self.paid = 0
+        self.found = None
         self.begin(0, inputs)
 
     def begin(self, procedure, values):
@@ -72,7 +72,7 @@ class Work:
             if word == "set":
                 values = _replaced(values, place.statement[1], at_values(place.statement[2], values))
             elif word == "pay":
-                self.cost = self.cost + place.statement[1]
+                self.paid = self.paid + place.statement[1]
             way = 1 if _failed(place, word, values) else 0
             self.frames[-1] = (place.goals[way], values)
 
@@ -80,7 +80,7 @@ class Work:
         """End the last frame with a number, and let the one ahead of it go on."""
         self.frames.pop()
         if not self.frames:
-            self.result = number
+            self.found = number
             return
         calling, values = self.frames[-1]
         place = self.places[calling]
@@ -146,4 +146,4 @@ def worked_through(program, inputs, outside, most):
 def spoken(program, inputs, outside, most):
     """(word, result, cost, steps) at the first step that cannot be done."""
     word, work = worked_through(program, inputs, outside, most)
-    return (word, work.result, work.cost, len(work.taken))
+    return (word, work.found, work.paid, len(work.taken))
