@@ -120,6 +120,13 @@ class StandingTest(Machine):
         self.is_just(True, run(same, (), ((0, ()), (1, ()))) == run(same, (), ((0, ()), (3, ()))))
         self.is_just(False, run(same, (), ((0, ()), (1, ()))) == run(same, (), ((0, ()), (2, ()))))
         self.is_just(False, run(same, (), ((1, ()),)) == run(same, (), ((3, ()),)))
+        self.is_just(False, Standing(TREE, (2,)) == Standing(TREE, (3,)))
+        more = System(TREE.functions, (*TREE.rules, TREE.rules[1]), TREE.start_rows)
+        self.is_just(False, one == run(more, (2,), ((0, ()),)))
+        twins = System((("f", 0),), ((0, 0, (), 0, ((0, ()),), (0, 0)), (0, 0, (), 0, ((0, ()),), (0, 0)), (0, 0, (), 0, (), (0,))))
+        self.is_just(False, run(twins, (), ((0, ()),)) == run(twins, (), ((1, ()),)))
+        self.is_just(False, run(twins, (), ((2, ()),)) == run(twins, (), ((0, ()), (2, ()))))
+        self.is_just(True, run(twins, (), ((1, ()), (2, ()))) == run(twins, (), ((0, ()), (2, ()))))
         self.assertRaises(TypeError, lambda: iter(one))
         self.assertRaises(TypeError, lambda: one < one)
 

@@ -223,6 +223,8 @@ class EdgesTest(Rows):
         self.is_just(False, is_fall(2, rows, (0, 1, -1), (0, 0, 0)))
         self.is_just(False, is_fall(2, rows, (-5, 1, -1), (0, 2, 1)))
         self.is_just(False, is_fall(0, (), (-1,), (0,)))
+        self.is_just(False, is_fall(1, (), (0, 1), (1, -1)))
+        self.is_just(True, is_fall(1, (), (0, 1), (0, -1)))
 
     def test_values_of_solutions_and_clashes(self):
         signs, forms = (True, False), ((-4, 1, 1), (0, 1, -1))
