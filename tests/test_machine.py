@@ -206,6 +206,18 @@ class RunsTest(Machine):
         self.assertEqual(len(entered(deep, (), row)), 1999)
         self.assertEqual(len(ended(deep, (), row)), 1999)
 
+    def test_what_is_not_true(self):
+        # [4.6], one by one.
+        self.assertEqual((run(STUCK, (4,), ()).result, list(each_run(STUCK, (4,), 5, 9))), (None, [()]))
+        free = System((("f", 0),), ((0, 0, (), 0, ((0, ()),), (0, 0)), (0, 1, (), 0, (), (0, 1))))
+        self.assertEqual([run(free, (), ((0, ()),) * many).cost for many in (1, 2)], [0, 0])
+        self.assertEqual([run(free, (), ((1, (number,)),)).result for number in (3, 4)], [3, 4])
+        down = System((("f", 0), ("g", 1)), (
+            (0, 1, (), 0, ((1, ((0, 1),)),), (0, 0, 0)), (1, 0, ((-1, 1),), 0, ((1, ((-1, 1),)),), (0, 0, 0)), (1, 0, ((0, -1),), 0, (), (0, 0))))
+        for many in (0, 5, 500):
+            row = ((0, (many,)), *((1, ()),) * many, (2, ()))
+            self.assertEqual(run(down, (), row).call, None)
+
     def test_nothing_is_shared(self):
         row = ((0, ()), (1, ()), (1, ()))
         rules, made = tally(TREE, (1,), row)

@@ -240,6 +240,18 @@ class EdgesTest(Rows):
         self.is_just(True, is_clash((True,), ((-3, -1),), (1,)))
         self.is_just(False, is_clash((), (), ()))
 
+    def test_what_is_not_true(self):
+        # [2.6], one by one.
+        half = ((-1, 2), (1, -2))
+        self.is_just(True, is_point(1, half, (2, 1)))
+        self.assertFalse(any(is_point(1, half, (1, number)) for number in range(-9, 10)))
+        cross = ((0, 1, 0), (0, -1, 0), (0, 0, 1), (0, 0, -1), (0, 1, 1))
+        self.is_just(True, is_bare(2, cross, (0, 1, 2, 3)))
+        self.is_just(True, is_bare(2, cross, (1, 3, 4)))
+        self.assertEqual(least(1, ((-1, 2),), (0, 1))[1], (1, 2))
+        self.assertEqual(follows(2, cross[0:3:2], (0, 1, 1))[0], "follows")
+        self.assertEqual([follows(2, (row,), (0, 1, 1))[0] for row in cross[0:3:2]], ["escapes"] * 2)
+
     def test_bare_values(self):
         rows = ((0, 1), (-1, 1), (1, 0), (-1, 1))
         for value, expected in [((1,), True), ((3,), True), ((0,), False), ((0, 1), False), ((1, 3), False), ((), False)]:

@@ -3,6 +3,7 @@ import unittest
 
 from fallorflow.errors import InvalidKeep, InvalidNumber, InvalidSystem
 from fallorflow.rules import system as module
+from fallorflow.rules.machine import each_run, run
 from fallorflow.rules.system import System, arguments, edge_rows, edges, empty_keep, goal, is_keep, parts, reached
 from fallorflow.rules.system import rows_ahead, source, system_fault
 from tests import draws, judging
@@ -206,6 +207,16 @@ class EdgesTest(Refusing, unittest.TestCase):
                 places |= {goal(made, edge) for edge in lot if source(made, edge) in places}
             self.assertEqual(reached(made, lot), tuple(sorted(places)))
         self.assertGreater(rings, 100)
+
+    def test_what_is_not_true(self):
+        # [3.7], one by one.
+        half = System((("f", 0), ("g", 0)), ((0, 1, ((-1, 2), (1, -2)), 0, ((1, ()),), (0, 0, 0)), (1, 0, (), 0, ((0, ()),), (0, 0))))
+        self.is_just(True, judging.is_point(1, edge_rows(half, empty_keep(half), (0, 0))[1], (2, 1)))
+        self.assertEqual(list(each_run(half, (), 5, 9)), [()])
+        components, _ = parts(half, edges(half))
+        self.assertEqual([source(half, edge) for edge in components[0]], [0, 1])
+        quiet = System((("f", 0),), ((0, 0, (), 0, (), (7,)),))
+        self.assertEqual((parts(quiet, edges(quiet)), run(quiet, (), ((0, ()),)).result), (((), ()), 7))
 
     def test_many_edges(self):
         functions = tuple((a + b, 0) for a in "abcde" for b in "abcdefgh")
