@@ -19,4 +19,11 @@ INTERFACE = {
     "fallorflow.texts.programs": "is_program".split(),
     "fallorflow.texts.spoken": "spoken".split(),
     "fallorflow.texts.lead": "system_of full_inputs choices_of outside_of".split(),
+    "fallorflow.texts.short": "can_cut cut short".split(),
+    "fallorflow.texts.speech": "program_text read_program".split(),
+    "fallorflow.hold.keeps": (
+        "MOST_DUTIES duties duty_parts inductive is_inductive_paper events first_break is_within greatest is_greatest_paper "
+        "united usual").split(),
+    "fallorflow.hold.closed": (
+        "rule_opens edge_opens is_rule_opening is_edge_opening open_edges met cut settled").split(),
 }

@@ -50,11 +50,13 @@ RUNS = r'''
 raises Refused(('guard', 0))
 '''
 
-# The text of the document's program, read by hand: `read_program` is not written yet.
 PROGRAMS = r'''
->>> PROGRAM = ((("main", ("n",), ("m",), (("while", ((-2, 1, 0),), (("pay", 1), ("set", 0, (-2, 1, 0)), ("set", 1, (1, 0, 1)))), ("give", (0, 0, 1)))),), ((0, 1),))
->>> [spoken(PROGRAM, (7,), (), 100), len(system_of(PROGRAM).functions)]
-[('ended', 3, 3, 14), 6]
+>>> HALF = "proc main n with m\n  given n >= 0\n  while n - 2 >= 0\n    pay 1\n    n = n - 2\n    m = m + 1\n  end\n  give m\nend\n"
+>>> PROGRAM = read_program(HALF)
+>>> [spoken(PROGRAM, (7,), (), 100), len(system_of(PROGRAM).functions), len(short(system_of(PROGRAM)).rules), program_text(PROGRAM) == HALF]
+[('ended', 3, 3, 14), 6, 2, True]
+>>> read_program("proc main n\n  give m\nend\n")
+raises ParseError(1)
 '''
 
 LATER = r'''

@@ -2,13 +2,14 @@ import os
 import unittest
 
 from fallorflow.base import forms
+from fallorflow.hold import closed, keeps
 from fallorflow.lots import rows
 from fallorflow.rules import machine, made, system
-from fallorflow.texts import lead, programs, spoken
+from fallorflow.texts import lead, programs, short, speech, spoken
 from tests import examples
 
 DOCUMENT = os.path.join(os.path.dirname(__file__), "..", "..", "shared", "DOC.md")
-MODULES = [forms, rows, system, made, machine, programs, spoken, lead]
+MODULES = [forms, rows, system, made, machine, programs, spoken, lead, short, speech, keeps, closed]
 BLOCKS = [examples.FORMS, examples.ROWS, examples.SYSTEMS, examples.RUNS, examples.PROGRAMS, examples.LATER]
 
 
@@ -36,13 +37,12 @@ class ExamplesTest(unittest.TestCase):
                     shown = lines[at + 1] if at + 1 < len(lines) and not lines[at + 1].startswith(">>> ") else ""
                     self.assertEqual(told(line[4:], names), shown, line)
                     many += 1
-        self.assertEqual(many, 36)
+        self.assertEqual(many, 38)
 
     @unittest.skipUnless(os.path.exists(DOCUMENT), "the document is not here")
     def test_they_stand_in_the_document(self):
         with open(DOCUMENT, encoding="utf-8") as file:
             lines = file.read().split("\n")
         for block in BLOCKS:
-            if block is not examples.PROGRAMS:
-                for line in block.strip().split("\n"):
-                    self.assertIn(line, lines)
+            for line in block.strip().split("\n"):
+                self.assertIn(line, lines)

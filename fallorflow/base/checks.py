@@ -2,16 +2,18 @@
 from fallorflow.errors import InvalidForm, InvalidNumber, InvalidRows
 
 MOST_LETTERS = 8
+# The least number of more than 60 digits.
+TOO_LONG = 10 ** 60
 
 
 def is_whole(value):
     """Whether the value is an integer of any length."""
-    return isinstance(value, int) and not isinstance(value, bool)
+    return isinstance(value, int) and value is not True and value is not False
 
 
 def is_short(value):
     """Whether the value is an integer of at most 60 digits."""
-    return is_whole(value) and -10 ** 60 < value < 10 ** 60
+    return is_whole(value) and -TOO_LONG < value < TOO_LONG
 
 
 def is_from(low, high, value):
@@ -19,28 +21,35 @@ def is_from(low, high, value):
     return is_whole(value) and low <= value <= high
 
 
-def is_short_row(many, value):
-    """Whether the value is a tuple of so many integers of at most 60 digits."""
-    return isinstance(value, tuple) and len(value) == many and all([is_short(part) for part in value])
-
-
 def is_long_row(many, value):
     """Whether the value is a tuple of so many integers of any length."""
-    return isinstance(value, tuple) and len(value) == many and all([is_whole(part) for part in value])
+    if not isinstance(value, tuple) or len(value) != many:
+        return False
+    # Everything asks this, of the greatest rows too: a call for each part takes far longer.
+    for part in value:
+        if not isinstance(part, int) or part is True or part is False:
+            return False
+    return True
 
 
 def is_row_within(bound, many, value):
     """Whether the value is a tuple of so many integers from -bound to bound."""
-    if not isinstance(value, tuple) or len(value) != many:
-        return False
-    return all([is_from(-bound, bound, part) for part in value])
+    return is_long_row(many, value) and (many == 0 or (-bound <= min(value) and max(value) <= bound))
+
+
+def is_short_row(many, value):
+    """Whether the value is a tuple of so many integers of at most 60 digits."""
+    return is_row_within(TOO_LONG - 1, many, value)
 
 
 def are_rows_within(bound, many, most, value):
     """Whether the value is a tuple of at most so many rows as above."""
     if not isinstance(value, tuple) or len(value) > most:
         return False
-    return all([is_row_within(bound, many, row) for row in value])
+    for row in value:
+        if not is_row_within(bound, many, row):
+            return False
+    return True
 
 
 def is_ascending(values):
@@ -76,9 +85,7 @@ def check_form(many, form):
 
 def is_lot(many, most, value):
     """Whether the value is a tuple of at most so many forms over many unknowns."""
-    if not isinstance(value, tuple) or len(value) > most:
-        return False
-    return all([is_short_row(many + 1, row) for row in value])
+    return are_rows_within(TOO_LONG - 1, many + 1, most, value)
 
 
 def check_lot(many, most, rows):

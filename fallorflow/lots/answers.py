@@ -98,6 +98,20 @@ def followed(many, rows, form):
     return sum_or_point(table, form)
 
 
+def followed_each(many, rows, forms):
+    """The list of what `followed` tells of each form, the rows being opened once."""
+    table = rows_table(many, rows)
+    at = opened(table)
+    if at is not None:
+        told = sum_by_bar(rows, bar_of(table, at))
+        return [("follows", told) for _ in forms]
+    found = []
+    for form in forms:
+        found.append(sum_or_point(table, form))
+        table.drop(len(table.rows) - 1)
+    return found
+
+
 def solved_equations(signs, equations):
     """("solution", point) or ("clash", clash) for any signs and equations."""
     table = equations_table(signs, equations)

@@ -1,10 +1,11 @@
 """Rows and equations: points and bars, what follows, least values, bare rows."""
 from fallorflow.base.checks import are_indices, check_form, check_lot, check_many, is_long_row
 from fallorflow.base.forms import MOST_ROWS, MOST_UNKNOWNS
-from fallorflow.base.plain import added_up, at_vector, scaled
+from fallorflow.base.plain import added_up, at_vector
 from fallorflow.errors import InvalidOperation
 from fallorflow.lots.answers import bar_of, equations_table, followed, least_of, rows_table, solved_equations
 from fallorflow.lots.answers import solved_rows
+from fallorflow.lots.judges import do_hold, is_any_point, is_bar_for, is_point_for, is_sum_for
 from fallorflow.lots.simplex import is_needed, lowered, opened
 
 MOST_SIGNED = 40
@@ -100,29 +101,16 @@ def _is_following(table, row):
     return not is_below
 
 
-def _is_point(many, value):
-    return is_long_row(many + 1, value) and value[0] >= 1
-
-
 def is_point(many, rows, value):
     """Whether the value is a point at which the rows hold."""
     _check_rows(many, rows)
-    if not _is_point(many, value):
-        return False
-    return all([at_vector(row, value) >= 0 for row in rows])
-
-
-def _are_from_zero(many, value):
-    return is_long_row(many, value) and all([number >= 0 for number in value])
+    return is_point_for(many, rows, value)
 
 
 def is_bar(many, rows, value):
     """Whether the value is a bar for the rows."""
     _check_rows(many, rows)
-    if not _are_from_zero(len(rows), value):
-        return False
-    first, *others = added_up(rows, value, many)
-    return first <= -1 and not any(others)
+    return is_bar_for(many, rows, value)
 
 
 def is_sum(many, rows, form, value):
@@ -132,24 +120,13 @@ def is_sum(many, rows, form, value):
     return is_sum_for(many, rows, form, value)
 
 
-def is_sum_for(many, rows, form, value):
-    """The same for rows and forms of any kind, told by their makers."""
-    if not _are_from_zero(len(rows) + 2, value):
-        return False
-    scale, further, *numbers = value
-    if scale == 0 and further == 0:
-        return False
-    first, *others = added_up(rows, numbers, many)
-    return (first + further, *others) == scaled(scale, form)
-
-
 def is_fall(many, rows, form, value):
     """Whether the value is a direction in which the form falls, and no row does."""
     _check_rows(many, rows)
     check_form(many, form)
     if not is_long_row(many + 1, value) or value[0] != 0 or at_vector(form, value) >= 0:
         return False
-    return all([at_vector(row, value) >= 0 for row in rows])
+    return do_hold(rows, value)
 
 
 def solved(signs, equations):
@@ -176,7 +153,7 @@ def best(signs, equations, form):
 def is_solution(signs, equations, value):
     """Whether the value is a solution of the equations."""
     _check_equations(signs, equations)
-    if not _is_point(len(signs), value):
+    if not is_any_point(len(signs), value):
         return False
     if any([sign and number < 0 for sign, number in zip(signs, value[1:])]):
         return False

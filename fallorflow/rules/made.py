@@ -13,7 +13,8 @@ def without(system, rules):
     return System(system.functions, tuple(left), system.start_rows)
 
 
-def _renumbered(rule, numbers):
+def renumbered(rule, numbers):
+    """The rule, the functions having the told numbers."""
     function, unknowns, guard, cost, calls, result = rule
     moved = tuple([(numbers[callee], forms) for callee, forms in calls])
     return (numbers[function], unknowns, guard, cost, moved, result)
@@ -26,7 +27,7 @@ def permuted(system, order):
         raise InvalidOperation("not an order of the functions with 0 ahead")
     functions = tuple([system.functions[index] for index in order])
     numbers = {index: place for place, index in enumerate(order)}
-    rules = tuple([_renumbered(rule, numbers) for rule in system.rules])
+    rules = tuple([renumbered(rule, numbers) for rule in system.rules])
     return System(functions, rules, system.start_rows)
 
 
@@ -45,7 +46,7 @@ def beside(one, other):
     many = len(one.functions)
     numbers = [many + index for index in range(len(other.functions))]
     functions = (*one.functions, *other.functions)
-    rules = (*one.rules, *[_renumbered(rule, numbers) for rule in other.rules])
+    rules = (*one.rules, *[renumbered(rule, numbers) for rule in other.rules])
     if system_fault(functions, rules, one.start_rows) is not None:
         raise InvalidOperation("there would be a fault in the system of both")
     return System(functions, rules, one.start_rows)

@@ -19,25 +19,27 @@ def is_program(value):
     procedures, given = value
     if not isinstance(procedures, tuple) or not 1 <= len(procedures) <= MOST_PROCEDURES:
         return False
-    if not all([_is_head(procedure) for procedure in procedures]):
+    if not all([is_head(procedure) for procedure in procedures]):
         return False
     if len({procedure[0]: True for procedure in procedures}) < len(procedures):
         return False
     return _is_given(procedures[0], given) and _are_bodies_fit(procedures)
 
 
-def _is_word(value):
+def is_word(value):
+    """Whether the value is a name, and none of the words of the language."""
     return is_name(value) and value not in WORDS
 
 
-def _is_head(value):
-    if not isinstance(value, tuple) or len(value) != 4 or not _is_word(value[0]):
+def is_head(value):
+    """Whether the value is formed as a procedure, whatever its body is."""
+    if not isinstance(value, tuple) or len(value) != 4 or not is_word(value[0]):
         return False
     parameters, inner = value[1], value[2]
     if not isinstance(parameters, tuple) or not isinstance(inner, tuple):
         return False
     variables = (*parameters, *inner)
-    if len(variables) > MAX_PARAMETERS or not all([_is_word(name) for name in variables]):
+    if len(variables) > MAX_PARAMETERS or not all([is_word(name) for name in variables]):
         return False
     return len({name: True for name in variables}) == len(variables)
 

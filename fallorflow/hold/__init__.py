@@ -1,0 +1,1 @@
+"""Rows that hold in each run, and what never opens by them."""
