@@ -26,4 +26,13 @@ INTERFACE = {
         "united usual").split(),
     "fallorflow.hold.closed": (
         "rule_opens edge_opens is_rule_opening is_edge_opening open_edges met cut settled").split(),
+    "fallorflow.fall.ranks": (
+        "MOST_ROWS rank_or_balance is_rank is_balance falling narrowed ranks_added most_times").split(),
+    "fallorflow.fall.trees": "tree_or_stay is_tree is_stay left_over rounds measure".split(),
+    "fallorflow.bills.bills": (
+        "MOST_EQUATIONS items_of item_rows due billed is_bill is_crop allowed spent").split(),
+    "fallorflow.bills.least": (
+        "least_bill is_least_bill worth lot_items shared is_shared is_split visits").split(),
+    "fallorflow.bounds.polys": (
+        "MAX_TERMS MAX_EXPONENT is_poly poly_sum poly_product poly_join poly_at does_cover").split(),
 }

@@ -59,13 +59,57 @@ PROGRAMS = r'''
 raises ParseError(1)
 '''
 
-LATER = r'''
+FALLS = r'''
 >>> DOWN = System((("f", 1),), ((0, 0, ((-1, 1),), 1, ((0, ((-1, 1),)),), (0, 0, 0)),))
 >>> UP = System((("f", 1),), ((0, 0, ((0, 1),), 1, ((0, ((1, 1),)),), (0, 0, 0)),))
+>>> LOT, RANK, BALANCE = ((0, 0),), (((0, 1),), ((1, 0, 0), (1, 1, 1))), ((((1, 0), (1, 0)),), (0, 1))
+>>> [is_rank(DOWN, empty_keep(DOWN), LOT, (0, 0), RANK), is_balance(UP, empty_keep(UP), LOT, (0, 0), BALANCE), falling(UP, empty_keep(UP), LOT)]
+[True, True, ()]
+>>> most_times(DOWN, ((0, 1),), 0, (4,))
+5
+'''
+
+TREES = r'''
 >>> ONE, TWO = (0, 0, ((-1, 1, 0),), 1, ((0, ((-1, 1, 0), (0, 0, 1))),), (0, 0, 0, 0)), (0, 1, ((-1, 0, 1, 0),), 1, ((0, ((0, 0, 0, 1), (-1, 0, 1, 0))),), (0, 0, 0, 0, 0))
 >>> PAIR, BOTH = System((("f", 2),), (ONE, TWO)), ((0, 0), (1, 0))
+>>> [rounds(PAIR, empty_keep(PAIR), BOTH), left_over(PAIR, empty_keep(PAIR), BOTH)]
+[{(0, 0): 2, (1, 0): 1}, ()]
+>>> tree = tree_or_stay(PAIR, empty_keep(PAIR), BOTH)[1]
+>>> [tree[0][0], [edge for edge, rank in tree[0][1]], is_tree(PAIR, empty_keep(PAIR), BOTH, tree)]
+[((0, 0), (1, 0)), [(1, 0)], True]
+'''
+
+BILLS = r'''
 >>> HALVES = System((("f", 1),), ((0, 2, ((-1, 1, 0, 0), (0, 0, 1, 0), (0, 0, 0, 1), (-1, 1, -1, -1), (1, -1, 1, 1)), 1, ((0, ((0, 0, 1, 0),)), (0, ((0, 0, 0, 1, 0),))), (0,) * 6),), ((0, 1),))
 >>> TWINS = System((("f", 1),), ((0, 0, ((-1, 1),), 1, ((0, ((-1, 1),)), (0, ((-1, 1, 0),))), (0,) * 4),), ((0, 1),))
+>>> HELD = ((((0, 1),),), ((),))
+>>> [items_of(HALVES), item_rows(TWINS, HELD, (0, 2)), due(HALVES, 1, ((0, 1),), (0, 1))]
+[((0, 1), (0, 2)), (2, ((0, 1, 0), (-1, 1, 0))), (-1, 1, -1, 0)]
+>>> BILL = ("bill", 1, ((0, 1),), ((1, 0, 1),), ((1, 0, 0, 0, 0, 1, 1, 0), (1, 0, 0, 0, 0, 0, 1, 0)))
+>>> [is_bill(HALVES, HELD, BILL), billed(HALVES, HELD)[0], allowed(HALVES, HELD, BILL, 0, (7,)), spent(HALVES, (3,), ((0, (2, 0)), (0, (0, 1))))]
+[True, 'bill', 7, (2, 1, 0)]
+>>> [billed(TWINS, HELD)[0], is_crop(TWINS, HELD, ("crop", (None, ((1, 2, 0), (1, 2, 0))), (((1, 0), (1, 0)),)))]
+['crop', True]
+'''
+
+LEAST = r'''
+>>> FOUND = least_bill(HALVES, HELD, 0, (7,))
+>>> [FOUND[:2], is_least_bill(HALVES, HELD, 0, (7,), FOUND), worth(HALVES, HELD, 0, (7,), FOUND[3])]
+[('least', (7, 1)), True, (7, 1)]
+>>> [least_bill(TWINS, HELD, 0, (3,))[0], lot_items(TWINS, ((0, 1),)), shared(TWINS, HELD, ((0, 1),))[0], shared(TWINS, HELD, ((0, 0), (0, 1)))[0]]
+['crop', ((0, 2),), 'shared', 'split']
+>>> visits(HALVES, (3,), ((0, (2, 0)), (0, (0, 1))), ((0, 0), (0, 1)))
+(2, 1, 0)
+>>> least_bill(HALVES, HELD, 0, (-1,))
+raises Refused(('entry', 0))
+'''
+
+POLYS = r'''
+>>> [poly_product(1, {(0,): 1, (1,): 2}, {(1,): 3}), poly_join(2, {(1, 0): 2}, {(1, 0): 1, (0, 1): 4}), poly_at(2, {(1, 1): 2, (0, 0): 1}, (3, 4))]
+[{(1,): 3, (2,): 6}, {(0, 1): 4, (1, 0): 2}, 25]
+'''
+
+LATER = r'''
 >>> GROW = System((("f", 2),), ((0, 1, ((0, 1, 0, 0), (-1, 0, 0, 1)), 1, ((0, ((0, 1, 0, 0), (0, 0, 1, 1))),), (0, 0, 0, 0, 0)),))
 >>> DOWN = System((("f", 1),), ((0, 0, ((-2, 1),), 1, ((0, ((-3, 1),)),), (0, 0, 0)),))
 >>> PAIR = System((("f", 2), ("g", 2)), ((0, 0, ((0, 1, 0), (0, 0, 1)), 1, ((1, ((-2, 1, 0), (1, 0, 1))),), (0, 0, 0, 0)), (1, 0, ((0, 1, 0), (0, 0, 1)), 1, ((0, ((2, 1, 0), (-1, 0, 1))),), (0, 0, 0, 0)), (0, 0, ((0, 1, 0), (-1, 0, 1)), 1, ((0, ((0, 1, 0), (-1, 0, 1))),), (0, 0, 0, 0))))

@@ -2,6 +2,9 @@ import os
 import unittest
 
 from fallorflow.base import forms
+from fallorflow.bills import bills, least
+from fallorflow.bounds import polys
+from fallorflow.fall import ranks, trees
 from fallorflow.hold import closed, keeps
 from fallorflow.lots import rows
 from fallorflow.rules import machine, made, system
@@ -9,8 +12,9 @@ from fallorflow.texts import lead, programs, short, speech, spoken
 from tests import examples
 
 DOCUMENT = os.path.join(os.path.dirname(__file__), "..", "..", "shared", "DOC.md")
-MODULES = [forms, rows, system, made, machine, programs, spoken, lead, short, speech, keeps, closed]
-BLOCKS = [examples.FORMS, examples.ROWS, examples.SYSTEMS, examples.RUNS, examples.PROGRAMS, examples.LATER]
+MODULES = [forms, rows, system, made, machine, programs, spoken, lead, short, speech, keeps, closed, ranks, trees, bills, least, polys]
+BLOCKS = [examples.FORMS, examples.ROWS, examples.SYSTEMS, examples.RUNS, examples.PROGRAMS,
+          examples.FALLS, examples.TREES, examples.BILLS, examples.LEAST, examples.POLYS, examples.LATER]
 
 
 def told(code, names):
@@ -37,7 +41,7 @@ class ExamplesTest(unittest.TestCase):
                     shown = lines[at + 1] if at + 1 < len(lines) and not lines[at + 1].startswith(">>> ") else ""
                     self.assertEqual(told(line[4:], names), shown, line)
                     many += 1
-        self.assertEqual(many, 38)
+        self.assertEqual(many, 55)
 
     @unittest.skipUnless(os.path.exists(DOCUMENT), "the document is not here")
     def test_they_stand_in_the_document(self):

@@ -5,14 +5,21 @@ import time
 import unittest
 
 from fallorflow.base.forms import are_rows
+from fallorflow.bills.bills import billed, is_bill, is_crop
+from fallorflow.bills.least import is_least_bill, is_shared, is_split, least_bill, shared
+from fallorflow.bounds.polys import poly_at, poly_product
+from fallorflow.errors import TooMany
+from fallorflow.fall.ranks import falling, is_balance, is_rank, rank_or_balance
+from fallorflow.fall.trees import is_stay, is_tree, rounds, tree_or_stay
 from fallorflow.hold.closed import settled
 from fallorflow.hold.keeps import duties, greatest, inductive, is_greatest_paper, is_inductive_paper, united, usual
 from fallorflow.lots.rows import is_bar, is_point, point_or_bar
-from fallorflow.rules.system import System, edges
+from fallorflow.rules.system import System, edges, empty_keep
 from fallorflow.texts.lead import system_of
 from fallorflow.texts.programs import is_program
 from fallorflow.texts.short import short
 from fallorflow.texts.speech import program_text, read_program
+from tests import hidden
 
 LONG = 10 ** 60 - 1
 NAMES = [one + other for one in "abcdefghij" for other in "abcdefghij"]
@@ -147,6 +154,97 @@ class ProgramsTest(Timed):
         system = system_of(read_program(text))
         left = self.timed("39 assignments, cut short", 10, lambda: short(system))
         self.assertEqual((len(left.functions), len(left.rules)), (1, 1))
+
+
+def wide_open(draw, count, rules, calls, guard, entries, size, long):
+    """Functions of five parameters; all rows of a function hold at a point and along a direction that are drawn."""
+    ways = [[(1, *[draw.randint(-9, 9) for _ in range(5)]), (0, *[draw.randint(-9, 9) for _ in range(5)])] for _ in range(count)]
+
+    def holding(vectors, most):
+        while True:
+            found = [draw.randint(-most, most) for _ in vectors[0]]
+            values = [sum(a * b for a, b in zip(found, vector)) for vector in vectors]
+            if min(values) >= 0 or max(values) <= 0:
+                return tuple(found) if min(values) >= 0 else tuple(-number for number in found)
+
+    made = []
+    for index in range(rules):
+        function = index % count
+        vectors = [(*vector, *[draw.randint(-9, 9) for _ in range(2)]) for vector in ways[function]]
+        told = []
+        for number in range(calls):
+            forms = tuple(tuple(draw.randint(-size, size) for _ in range(8 + number)) for _ in range(5))
+            told.append((draw.randrange(count), forms))
+        rows = tuple(holding(vectors, size) for _ in range(guard))
+        made.append((function, 2, rows, draw.randint(1, 9), tuple(told), (0,) * (8 + calls)))
+    system = System(tuple((NAMES[at], 5) for at in range(count)), tuple(made))
+    keep = (tuple(tuple(holding(vectors, long) for _ in range(entries)) for vectors in ways), ((),) * count)
+    return system, keep, [vectors[0][1:] for vectors in ways]
+
+
+class FallsTest(Timed):
+    def look_at(self, what, system, keep):
+        lot = edges(system)
+        word, found = self.timed(f"{what}, one edge", 30, lambda: rank_or_balance(system, keep, lot, lot[0]))
+        self.assertTrue((is_rank if word == "rank" else is_balance)(system, keep, lot, lot[0], found))
+        self.timed(f"{what}, falling", 60, lambda: falling(system, keep, lot))
+        word, found = self.timed(f"{what}, {word}, tree or stay", 60, lambda: tree_or_stay(system, keep, lot))
+        judge = is_tree if word == "tree" else is_stay
+        self.assertTrue(self.timed(f"{what}, its judge", 10, lambda: judge(system, keep, lot, found)))
+        return word
+
+    def test_many_rows(self):
+        draw = random.Random(62)
+        for count, rules, guard, entries, size, long in [(10, 15, 8, 0, 3, 3), (10, 15, 8, 0, 1000000, 1), (3, 6, 8, 12, 1000000, LONG), (6, 15, 4, 4, 1000000, LONG)]:
+            system, keep, _ = wide_open(draw, count, rules, 1, guard, entries, size, long)
+            self.look_at(f"{rules} edges, 120 rows, numbers to {size}", system, keep)
+
+    def test_many_edges(self):
+        draw = random.Random(63)
+        for count, size in [(40, 1), (40, 1000000), (1, 1000000)]:
+            system, keep, _ = wide_open(draw, count, 80, 2, 0, 0, size, 1)
+            self.look_at(f"160 edges of {count} functions", system, keep)
+        system, keep, _ = wide_open(draw, 40, 60, 2, 1, 0, 1000000, 1)
+        self.look_at("120 edges, 120 rows", system, keep)
+
+    def test_many_levels(self):
+        system = hidden.stairs(5)
+        rules = [rule for rule in system.rules for _ in range(16)]
+        system = System(system.functions, tuple(rules))
+        lot = edges(system)
+        self.assertEqual(self.look_at("80 edges on five levels", system, empty_keep(system)), "tree")
+        self.assertEqual(set(rounds(system, empty_keep(system), lot).values()), {1, 2, 3, 4, 5})
+
+
+class BillsTest(Timed):
+    def look_at(self, what, system, keep, values):
+        word, *_ = found = self.timed(f"{what}, a bill or a crop", 30, lambda: billed(system, keep))
+        self.assertTrue((is_bill if word == "bill" else is_crop)(system, keep, found))
+        least = self.timed(f"{what}, {word}, the least one", 60, lambda: least_bill(system, keep, 0, values))
+        if word == "bill":
+            self.assertTrue(is_least_bill(system, keep, 0, values, least))
+        lot = edges(system)
+        word, *_ = found = self.timed(f"{what}, shared or split", 30, lambda: shared(system, keep, lot))
+        self.assertTrue((is_shared if word == "shared" else is_split)(system, keep, lot, found))
+
+    def test_many_equations(self):
+        draw = random.Random(64)
+        for count, rules, size, long in [(1, 9, 3, 3), (4, 7, 1000000, 1000000), (4, 6, 1000000, LONG), (5, 6, 1000000, LONG), (3, 7, 1000000, LONG)]:
+            system, keep, starts = wide_open(draw, count, rules, 1, 8, 12, size, long)
+            self.look_at(f"{count} functions, {rules} items, numbers to {len(str(long))} digits", system, keep, starts[0])
+
+
+class PolysTest(Timed):
+    def test_many_members(self):
+        draw = random.Random(65)
+        one = {(at, 0): 10 ** 300 for at in range(20)}
+        other = {(0, at): 10 ** 300 for at in range(15)}
+        full = self.timed("a poly of 300 members", 5, lambda: poly_product(2, one, other))
+        self.assertEqual(len(full), 300)
+        with self.assertRaises(TooMany):
+            self.timed("300 members by 300", 10, lambda: poly_product(2, full, full))
+        high = {tuple(draw.randint(30, 40) for _ in range(14)): 10 ** 300 for _ in range(300)}
+        self.timed("300 members at sizes of 60 digits", 10, lambda: poly_at(14, high, (LONG,) * 14))
 
 
 if __name__ == "__main__":

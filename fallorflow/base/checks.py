@@ -52,6 +52,18 @@ def are_rows_within(bound, many, most, value):
     return True
 
 
+def are_short_forms(sizes, value):
+    """Whether the value has a form for each of some numbers of unknowns."""
+    return are_long_forms(sizes, value) and all([is_short_row(len(form), form) for form in value])
+
+
+def are_long_forms(sizes, value):
+    """Whether the value has for each of some numbers of unknowns a form with integers of any length."""
+    if not isinstance(value, tuple) or len(value) != len(sizes):
+        return False
+    return all([is_long_row(many + 1, form) for many, form in zip(sizes, value)])
+
+
 def is_ascending(values):
     """Whether each of some comparable values is above the one ahead of it."""
     return all([values[at] < values[at + 1] for at in range(len(values) - 1)])

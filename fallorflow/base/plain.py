@@ -28,6 +28,12 @@ def added(one, other):
     return tuple([mine + yours for mine, yours in zip(one, other)])
 
 
+def add_to(total, side, numbers):
+    """Add numbers, each so many times, to those of a list; further ones are left out."""
+    for at in range(len(total)):
+        total[at] = total[at] + side * numbers[at]
+
+
 def scaled(number, form):
     """Each number of a form so many times."""
     return tuple([number * part for part in form])

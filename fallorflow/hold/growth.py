@@ -14,7 +14,7 @@ class Growth:
     """What is left of candidates, with sums and what was taken out: a changing class."""
 
     def __init__(self, system, keep):
-        self.system = system
+        self.made = system
         self.keep = keep
         self.left = {}
         for side, lots in enumerate(keep):
@@ -44,12 +44,12 @@ class Growth:
 
     def settle_at(self, site):
         """Find the sums that lack at a site; whether rows were taken out for it."""
-        lot = lot_at(self.system, site)
+        lot = lot_at(self.made, site)
         lacking = [at for at in self.left[lot] if at not in self.sums[site]]
         if not lacking:
             return False
-        many, rows = rows_at(self.system, self.now(), site)
-        forms = [form_at(self.system, site, many, lot_of(self.keep, lot)[at]) for at in lacking]
+        many, rows = rows_at(self.made, self.now(), site)
+        forms = [form_at(self.made, site, many, lot_of(self.keep, lot)[at]) for at in lacking]
         answers = followed_each(many, rows, forms)
         points = [told for word, told in answers if word == "escapes"]
         for at, (word, told) in zip(lacking, answers):
@@ -77,9 +77,9 @@ class Growth:
     def rows_of(self, site):
         """The rows at a site, part by part: those of candidates, others as rows of nothing."""
         found = []
-        for lot in lots_ahead(self.system, site):
+        for lot in lots_ahead(self.made, site):
             if lot is None:
-                found.append([(-1, 0, at) for at in range(fixed_rows(self.system, site))])
+                found.append([(-1, 0, at) for at in range(fixed_rows(self.made, site))])
             else:
                 found.append([(*lot, at) for at in self.left[lot]])
         return found
@@ -91,7 +91,7 @@ class Growth:
         row = (*lot, at)
         for place in self.sites:
             found = self.sums[place]
-            if lot_at(self.system, place) == lot:
+            if lot_at(self.made, place) == lot:
                 found.pop(at, None)
             self.sums[place] = {other: told for other, told in found.items() if not _names(told, row)}
 
@@ -99,7 +99,7 @@ class Growth:
         """The sums for all duties that are left, in their sequence."""
         found = []
         for site in self.sites:
-            for at in self.left[lot_at(self.system, site)]:
+            for at in self.left[lot_at(self.made, site)]:
                 found.append(self.whole(site, self.sums[site][at]))
         return tuple(found)
 

@@ -26,6 +26,15 @@ def is_vector_for(many, rows, value):
     return is_long_row(many + 1, value) and value[0] >= 0 and do_hold(rows, value)
 
 
+def is_flow_for(many, rows, value):
+    """Whether the value is None, or a pair of a vector and a point at both of which the rows hold."""
+    if value is None:
+        return True
+    if not isinstance(value, tuple) or len(value) != 2:
+        return False
+    return is_vector_for(many, rows, value[0]) and is_point_for(many, rows, value[1])
+
+
 def _are_from_zero(many, value):
     return is_long_row(many, value) and (many == 0 or min(value) >= 0)
 

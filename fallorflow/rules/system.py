@@ -3,7 +3,7 @@ from fallorflow.base.checks import is_ascending, is_from, is_lot
 from fallorflow.base.plain import grown, put, unit
 from fallorflow.errors import InvalidKeep, InvalidNumber, InvalidSystem
 from fallorflow.rules.faults import functions_fault, given_fault, rules_fault
-from fallorflow.rules.ways import reached_from, rings
+from fallorflow.rules.ways import parted, reached_from
 
 MAX_FUNCTIONS = 40
 MAX_RULES = 80
@@ -150,14 +150,8 @@ def parts(system, edges):
     """The components of the edges, and those that are on no ring."""
     check_system(system)
     check_edges(system, edges)
-    components = {}
-    through = []
-    for edge, component in zip(edges, rings(_arrows(system, edges))):
-        if component is None:
-            through.append(edge)
-        else:
-            components.setdefault(component, []).append(edge)
-    return (tuple([tuple(found) for found in components.values()]), tuple(through))
+    components, through = parted(edges, _arrows(system, edges))
+    return (tuple(components), through)
 
 
 def reached(system, edges):

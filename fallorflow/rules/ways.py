@@ -40,3 +40,30 @@ def rings(arrows):
 
 def _component(place, ways):
     return min([other for other in ways[place] if place in ways[other]])
+
+
+def parted(names, arrows):
+    """The pair (components, through) of named arrows: the tuples of those that some ring has together, by their
+    first ones, and the tuple of those that are on no ring."""
+    components = {}
+    through = []
+    for name, component in zip(names, rings(arrows)):
+        if component is None:
+            through.append(name)
+        else:
+            components.setdefault(component, []).append(name)
+    return ([tuple(found) for found in components.values()], tuple(through))
+
+
+def height(start, arrows, weights):
+    """The greatest weight of a way along arrows from a start, no ring having a weight."""
+    found = {}
+    is_changed = True
+    while is_changed:
+        is_changed = False
+        for (source, goal), weight in zip(arrows, weights):
+            total = found.get(goal, 0) + weight
+            if total > found.get(source, 0):
+                found[source] = total
+                is_changed = True
+    return found.get(start, 0)

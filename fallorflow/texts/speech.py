@@ -64,9 +64,9 @@ class Reader:
         self.wholes = []
         self.given = []
         self.blocks = []
-        self.places = 0
-        self.rules = 0
-        self.calls = []
+        self.place_count = 0
+        self.rule_count = 0
+        self.called = []
 
     def take(self, at, line):
         """Take a line, at its index; whether it is a piece that can stand there."""
@@ -84,9 +84,9 @@ class Reader:
 
     def count(self, places, rules):
         """Count places and rules; whether they are not too many."""
-        self.places = self.places + places
-        self.rules = self.rules + rules
-        return self.places <= MAX_FUNCTIONS and self.rules <= MAX_RULES
+        self.place_count = self.place_count + places
+        self.rule_count = self.rule_count + rules
+        return self.place_count <= MAX_FUNCTIONS and self.rule_count <= MAX_RULES
 
     def begin(self, line):
         """Begin a procedure."""
@@ -120,7 +120,7 @@ class Reader:
             self.blocks.append(Block(told))
             return self.count(1, 1 if told[0] == "choose" else rules_of(told))
         if told[0] == "call":
-            self.calls.append((at, told[1], len(told[2])))
+            self.called.append((at, told[1], len(told[2])))
         self.blocks[-1].bodies[-1].append(told)
         return self.count(1, 1)
 
@@ -157,7 +157,7 @@ class Reader:
     def wrong_call(self):
         """The index of the first line that calls no procedure, or one with another number of forms, or None."""
         sizes = {name: len(parameters) for name, parameters, _ in self.heads}
-        for at, callee, many in self.calls:
+        for at, callee, many in self.called:
             if sizes.get(callee) != many:
                 return at
         return None

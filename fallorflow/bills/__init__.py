@@ -1,0 +1,1 @@
+"""Bills for all that runs cost, and ranks that are shared out."""

@@ -1,0 +1,1 @@
+"""Bounds of what systems cost, by the sizes of their inputs."""

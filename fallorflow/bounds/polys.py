@@ -1,0 +1,94 @@
+"""Polys: polynomials in sizes, with no number below 0, as dicts from exponents."""
+from fallorflow.base.checks import check_many, is_from, is_short, is_whole
+from fallorflow.base.forms import MOST_UNKNOWNS
+from fallorflow.errors import InvalidForm, InvalidOperation, TooMany
+
+MAX_TERMS = 300
+MAX_EXPONENT = 40
+
+
+def is_poly(many, value):
+    """Whether the value is a poly over so many sizes."""
+    check_many(MOST_UNKNOWNS, many)
+    return _is_poly(many, value)
+
+
+def _is_poly(many, value):
+    if not isinstance(value, dict) or len(value) > MAX_TERMS:
+        return False
+    for exponents, number in value.items():
+        if not isinstance(exponents, tuple) or len(exponents) != many or not is_whole(number) or number < 1:
+            return False
+        if not all([is_from(0, MAX_EXPONENT, exponent) for exponent in exponents]):
+            return False
+    return True
+
+
+def _check_polys(many, polys):
+    check_many(MOST_UNKNOWNS, many)
+    for poly in polys:
+        if not _is_poly(many, poly):
+            raise InvalidForm("not a poly over so many sizes")
+
+
+def _ordered(poly):
+    # The poly with ascending keys, as long as it is one.
+    if len(poly) > MAX_TERMS or any([max(exponents) > MAX_EXPONENT for exponents in poly if exponents]):
+        raise TooMany(MAX_TERMS)
+    return {exponents: poly[exponents] for exponents in sorted(poly)}
+
+
+def poly_sum(many, one, other):
+    """The sum of two polys."""
+    _check_polys(many, (one, other))
+    total = {exponents: one[exponents] for exponents in one}
+    for exponents, number in other.items():
+        total[exponents] = total.get(exponents, 0) + number
+    return _ordered(total)
+
+
+def poly_product(many, one, other):
+    """The product of two polys."""
+    _check_polys(many, (one, other))
+    total = {}
+    for mine, number in one.items():
+        for yours, times in other.items():
+            exponents = tuple([first + second for first, second in zip(mine, yours)])
+            total[exponents] = total.get(exponents, 0) + number * times
+    return _ordered(total)
+
+
+def poly_join(many, one, other):
+    """The poly that has for each exponents the greatest number of both."""
+    _check_polys(many, (one, other))
+    total = {exponents: one[exponents] for exponents in one}
+    for exponents, number in other.items():
+        total[exponents] = max(total.get(exponents, 0), number)
+    return _ordered(total)
+
+
+def poly_at(many, poly, sizes):
+    """The poly at some sizes."""
+    _check_polys(many, (poly,))
+    if not isinstance(sizes, tuple) or len(sizes) != many or not all([is_short(size) and size >= 0 for size in sizes]):
+        raise InvalidOperation("not an integer from 0 on for each size")
+    powers = [_powers(size) for size in sizes]
+    total = 0
+    for exponents, number in poly.items():
+        for told, exponent in zip(powers, exponents):
+            number = number * told[exponent]
+        total = total + number
+    return total
+
+
+def _powers(size):
+    found = [1]
+    for _ in range(MAX_EXPONENT):
+        found.append(found[-1] * size)
+    return found
+
+
+def does_cover(many, one, other):
+    """Whether the first poly has for each member of the other one a number that is at least that one."""
+    _check_polys(many, (one, other))
+    return all([one.get(exponents, 0) >= number for exponents, number in other.items()])

@@ -1,0 +1,1 @@
+"""What falls along call edges, and trees of falling."""
