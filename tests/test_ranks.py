@@ -160,6 +160,14 @@ class EitherOrTest(Ranks):
             self.is_just(True, is_rank(made, keep, edges_of, (3, 0), self.rank_of(made, keep, edges_of)))
         self.assertEqual(len(falling(made, more, lot[:13])), 13)
 
+    def test_one_row_more(self):
+        made = System((("f", 1),), ((0, 0, ((-1, 1),) * 8, 1, ((0, ((-1, 1),)),), (0, 0, 0)),) * 15 + DOWN.rules)
+        none, lot = empty_keep(made), edges(made)
+        self.assertEqual(len(falling(made, none, lot[:15])), 15)
+        self.assertEqual(len(falling(made, none, lot[1:])), 15)
+        self.refuses(TooMany, falling, made, none, lot, keeps={"limit": 120})
+        self.refuses(TooMany, rank_or_balance, made, none, lot, (15, 0), keeps={"limit": 120})
+
     def rank_of(self, made, keep, lot):
         ahead = [0] * len(keep[0][0])
         each = (1, 1, *ahead, *[0] * 8)
@@ -170,7 +178,6 @@ class EitherOrTest(Ranks):
             made, keep, lot = self.drawn()
             for edge in lot:
                 self.assertEqual(rank_or_balance(made, keep, lot, edge), rank_or_balance(made, keep, lot, edge))
-                hash(rank_or_balance(made, keep, lot, edge))
 
     def test_what_is_not_true(self):
         # [8.6]. What falls alone does not fall beside an edge that lifts it.

@@ -110,6 +110,13 @@ class EitherOrTest(Trees):
                 tree, depth = tree[0][2], depth + 1
             self.assertEqual(depth, many)
 
+    def test_nothing_is_shared(self):
+        none = empty_keep(DOWN)
+        found = rounds(DOWN, none, LOT)
+        found[(0, 0)] = 7
+        found.clear()
+        self.assertEqual(rounds(DOWN, none, LOT), {(0, 0): 1})
+
     def test_nothing(self):
         none = empty_keep(DOWN)
         self.assertEqual((tree_or_stay(DOWN, none, ()), rounds(DOWN, none, ()), left_over(DOWN, none, ())), (("tree", ()), {}, ()))

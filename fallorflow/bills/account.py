@@ -74,7 +74,7 @@ class Account:
     def bill(self, word, point):
         """The bill that a point of all unknowns tells."""
         scale, *values = point
-        forms = self.inquiry.forms(values)
+        forms = self.inquiry.forms_at(values)
         entries = []
         for function, form in enumerate(forms):
             rows = self.ledger.entries[function]

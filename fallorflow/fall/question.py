@@ -31,7 +31,7 @@ class Question:
 
     def shape(self, values):
         """The pair of the forms and of the sums for the losses, by their edges, that values of the unknowns tell."""
-        forms = self.inquiry.forms(values)
+        forms = self.inquiry.forms_at(values)
         sums = {}
         for edge in self.edges:
             told = self.lot.told[edge]

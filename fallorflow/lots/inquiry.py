@@ -67,7 +67,7 @@ class Inquiry:
         """The answer to all that is asked, costs being cells."""
         return answered(self.kinds, self.asked, self.asked_kinds, costs)
 
-    def forms(self, values):
+    def forms_at(self, values):
         """The form of each function, by the values of all unknowns, 0 for those that were not named."""
         found = []
         for function, many in enumerate(self.sizes):
