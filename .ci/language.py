@@ -464,6 +464,14 @@ def look_at_expressions(package, file):
             file.fault(node, "L7", "at most six for in a comprehension")
         if file.function_of(node) is None:
             file.fault(node, "L7", "comprehensions stand in functions")
+    for node in file.walk(ast.Subscript):
+        # Parentheses around a tuple do not change that it stands in the index; a star among arguments is another matter.
+        for part in ast.walk(node.slice):
+            if isinstance(part, ast.Starred) and not isinstance(file.above[part], ast.Call):
+                file.fault(part, "L7", "no star in an index")
+    for node in file.walk(ast.Set):
+        if any(isinstance(part, ast.Starred) for part in node.elts):
+            file.fault(node, "L7", "no star in a set literal")
     for node in file.walk(ast.Call):
         if isinstance(node.func, ast.Constant):
             file.fault(node, "L7", "a literal is not called")

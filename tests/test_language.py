@@ -22,6 +22,8 @@ BROKEN = [
     ("L6", "def f():\n    global X\n    X = 1\n"), ("L6", "async def f():\n    return 1\n"), ("L7", "def f(x):\n    return x / 2\n"),
     ("L7", "X = 1.5\n"), ("L7", "def f():\n    return ...\n"), ("L7", "def f(xs):\n    return (x for x in xs)\n"), ("L7", "def f(xs):\n    return bytes(xs)\n"),
     ("L7", "class C:\n    def __eq__(self, other):\n        return True\n\n\ndef f(xs):\n    return any(x for x in xs)\n"),
+    ("L7", "def f(d, x):\n    d[(1, *x)] = 2\n"), ("L7", "def f(d, x):\n    return d[1, *x]\n"), ("L7", "def f(d, x):\n    return d[[*x][0]]\n"),
+    ("L7", "def f(d, x):\n    d[(0, (1, *x))] += 2\n"), ("L7", "def f(d, x):\n    del d[(*x,)]\n"), ("L7", "def f(d, x):\n    return d in {1, *x}\n"),
     ("L8", "def f(x):\n    return hash(x)\n"), ("L8", "def f(x):\n    return open(x)\n"), ("L9", "def f(x):\n    print(x)\n"),
     ("L10", "X = '" + "a" * 120 + "'\n"), ("L10", "def f():\n" + "    x = 1\n" * 40), ("L10", "# one\n" * 400),
     ("L12", "def f__(x):\n    __x = 1\n    return __x\n"), ("L12", "def f():\n    for _ in 'ab':\n        return _\n"), ("L12", "def _wall_x():\n    return 1\n"),
@@ -52,6 +54,7 @@ KEPT = [
     "class E(ValueError):\n    def __init__(self, spot):\n        self.spot = spot\n\n\nclass D:\n    def __init__(self):\n        self._rows = ()\n\n"
     "    @property\n    def rows(self):\n        return self._rows\n\n    def __eq__(self, other):\n        return isinstance(other, D) and self._rows == other._rows\n\n"
     "    def __str__(self):\n        return f\"{len(self._rows)} rows\"\n",
+    "def f(d, x):\n    key = (1, *x)\n    d[key] = 2\n    return [*x, d.get((2, *x), d[key])]\n",
     "def each(xs):\n    for x in xs:\n        yield x\n\n\ndef f(xs):\n    found = {}\n    for x in each(xs):\n        found.setdefault(x, []).append(10 ** 60)\n"
     "    first, *others = sorted(found)\n    for _ in range(3):\n        others.append(first)\n    return len(set(others)) > 2 and 1 not in {2, 3}\n",
 ]

@@ -70,7 +70,8 @@ class Growth:
         for part, rows in enumerate(self.rows_of(site)):
             for row, number in zip(rows, left):
                 if number != 0:
-                    named[(part, *row)] = number
+                    key = (part, *row)
+                    named[key] = number
             left = left[len(rows):]
         return (scale, further, named)
 

@@ -203,10 +203,12 @@ def united(system, one, first, other, second):
         lot = lot_at(system, site)
         for at, row in enumerate(lot_of(union, lot)):
             if at < len(lot_of(one, lot)):
-                sums.append(_longer(system, site, one, union, mine[(*site, at)]))
+                key = (*site, at)
+                sums.append(_longer(system, site, one, union, mine[key]))
             else:
                 place = lot_of(other, lot).index(row)
-                sums.append(_longer(system, site, other, union, yours[(*site, place)]))
+                key = (*site, place)
+                sums.append(_longer(system, site, other, union, yours[key]))
     return (union, tuple(sums))
 
 
