@@ -148,6 +148,9 @@ class Package:
                 if isinstance(node.ctx, ast.Store):
                     self.attributes.add(node.attr)
         self.has_equal = "__eq__" in self.methods
+        parts = [part for node in self.classes.values() for part in node.body if isinstance(part, ast.FunctionDef)]
+        self.properties = {part.name for part in parts if "property" in decorators(part)}
+        self.plain_methods = {part.name for part in parts if not part.decorator_list}
 
     def imports(self, file):
         found = set()
@@ -363,6 +366,11 @@ def look_at_method(file, node):
         file.fault(node, "L28", "__init__ returns nothing")
     if node.name in ("__repr__", "__str__", "__len__") and not isinstance(node.body[-1], ast.Return):
         file.fault(node, "L28", "the last statement is a return")
+    for part in returns:
+        if node.name == "__len__" and called(part.value) != "len" and not isinstance(part.value, ast.Constant):
+            file.fault(part, "L28", "__len__ returns len(..) or a number")
+        if node.name in ("__repr__", "__str__") and not is_made_text(part.value):
+            file.fault(part, "L28", f"{node.name} returns a string that is made on the spot")
     if node.name in ("__eq__", "__repr__", "__str__", "__len__"):
         for part in ast.walk(node):
             if isinstance(part, (ast.Assign, ast.AugAssign, ast.AnnAssign, ast.Delete)):
@@ -371,6 +379,12 @@ def look_at_method(file, node):
         for part in ast.walk(node):
             if isinstance(part, ast.Attribute) and isinstance(part.ctx, ast.Store):
                 file.fault(part, "L5", "a property changes nothing")
+
+
+def is_made_text(node):
+    if isinstance(node, ast.Call) and isinstance(node.func, ast.Attribute) and node.func.attr == "join":
+        return is_text(node.func.value)
+    return is_text(node) or isinstance(node, ast.JoinedStr) or called(node) in ("str", "repr")
 
 
 def look_at_classes(package, file):
@@ -397,11 +411,17 @@ def look_at_classes(package, file):
                and isinstance(name.value, ast.Name) and name.value.id == "self"}
         for name in sorted(own & {part.name for part in node.body if isinstance(part, ast.FunctionDef) and not part.decorator_list}):
             file.fault(node, "L18", f"{name} is a method and an attribute")
+    for node in file.walk(ast.FunctionDef):
+        if isinstance(file.above[node], ast.ClassDef) and "property" in decorators(node) and node.name in package.plain_methods:
+            file.fault(node, "L5", f"the property {node.name} has the name of a method")
     for node in file.walk(ast.Name):
         if node.id in package.classes and isinstance(node.ctx, ast.Load) and not is_class_place(file, node):
             file.fault(node, "L18", f"the class {node.id} is called, a base, or stands in isinstance, except, raise")
     for node in file.walk(ast.Attribute):
         if isinstance(node.ctx, ast.Store):
+            # Setters are not looked for: no property is assigned at all.
+            if node.attr in package.properties:
+                file.fault(node, "L5", f"{node.attr} is a property of some class")
             if not isinstance(node.value, (ast.Name, ast.Attribute)):
                 file.fault(node, "L18", "attributes are assigned through a local name")
             if node.attr in NO_ATTRIBUTES:
@@ -495,6 +515,9 @@ def look_at_call(file, node):
             file.fault(node, "L7", f"no star in a call of {name}")
         if name == "bytes":
             file.fault(node, "L7", "bytes(..) is not used for the present")
+    for part in node.args:
+        if isinstance(part, ast.Starred) and not is_starred_plainly(part.value):
+            file.fault(part, "L7", "behind the star of a call stand names, attributes off a name and literals")
         if name == "isinstance" and len(node.args) == 2:
             kinds = node.args[1].elts if isinstance(node.args[1], ast.Tuple) else [node.args[1]]
             if not all(isinstance(kind, ast.Name) for kind in kinds):
@@ -504,6 +527,14 @@ def look_at_call(file, node):
             file.fault(node, "L25", "no keywords with methods of builtin values")
     if isinstance(node.func, ast.Attribute) and node.func.attr in ("to_bytes", "fromhex"):
         file.fault(node, "L7", "not used for the present")
+
+
+def is_starred_plainly(node):
+    if isinstance(node, (ast.List, ast.Tuple)):
+        return all(is_starred_plainly(part) for part in node.elts)
+    if isinstance(node, ast.Attribute):
+        return isinstance(node.value, ast.Name)
+    return isinstance(node, (ast.Name, ast.Constant))
 
 
 def look_at_name(file, node):

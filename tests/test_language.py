@@ -19,11 +19,14 @@ BROKEN = [
     ("L3", "print('x')\n"), ("L4", "def f(x=[]):\n    return x\n"), ("L4", "def g(f):\n    return f\n\n\n@g\ndef h(x):\n    return x\n"),
     ("L5", "class C:\n    def __hash__(self):\n        return 1\n"), ("L5", "class C:\n    def __next__(self):\n        return 1\n"),
     ("L5", "class C(dict):\n    pass\n"), ("L5", "def __len__(x):\n    return 1\n"), ("L5", "class C:\n    for k in 'ab':\n        pass\n"),
+    ("L5", "class C:\n    @property\n    def many(self):\n        return 1\n"),
+    ("L5", "class C:\n    @property\n    def f(self):\n        return 1\n\n\nclass D:\n    def f(self):\n        return 1\n"),
     ("L6", "def f():\n    global X\n    X = 1\n"), ("L6", "async def f():\n    return 1\n"), ("L7", "def f(x):\n    return x / 2\n"),
     ("L7", "X = 1.5\n"), ("L7", "def f():\n    return ...\n"), ("L7", "def f(xs):\n    return (x for x in xs)\n"), ("L7", "def f(xs):\n    return bytes(xs)\n"),
     ("L7", "class C:\n    def __eq__(self, other):\n        return True\n\n\ndef f(xs):\n    return any(x for x in xs)\n"),
     ("L7", "def f(d, x):\n    d[(1, *x)] = 2\n"), ("L7", "def f(d, x):\n    return d[1, *x]\n"), ("L7", "def f(d, x):\n    return d[[*x][0]]\n"),
     ("L7", "def f(d, x):\n    d[(0, (1, *x))] += 2\n"), ("L7", "def f(d, x):\n    del d[(*x,)]\n"), ("L7", "def f(d, x):\n    return d in {1, *x}\n"),
+    ("L7", "def f(xs):\n    return f(*xs.pop())\n"), ("L7", "def f(xs):\n    return max(*xs[1])\n"),
     ("L8", "def f(x):\n    return hash(x)\n"), ("L8", "def f(x):\n    return open(x)\n"), ("L9", "def f(x):\n    print(x)\n"),
     ("L10", "X = '" + "a" * 120 + "'\n"), ("L10", "def f():\n" + "    x = 1\n" * 40), ("L10", "# one\n" * 400),
     ("L12", "def f__(x):\n    __x = 1\n    return __x\n"), ("L12", "def f():\n    for _ in 'ab':\n        return _\n"), ("L12", "def _wall_x():\n    return 1\n"),
@@ -45,6 +48,7 @@ BROKEN = [
     ("L26", "class C:\n    def decode(self):\n        return 1\n"), ("L27", "def f(x):\n    return x ** x\n"), ("L27", "def f(x):\n    return 2 ** 65\n"),
     ("L27", "X = '5 %'\n"), ("L27", "X = '\\x41'\n"), ("L27", "X = r'a'\n"), ("L27", "X = '__odd__'\n"), ("L27", "X = " + "1" * 901 + "\n"),
     ("L28", "class C:\n    def __init__(self):\n        return None\n"), ("L28", "class C:\n    def __str__(self):\n        x = 'a'\n        return x\n"),
+    ("L28", "class C:\n    def __len__(self):\n        return self.many\n"), ("L28", "class C:\n    def __str__(self):\n        return told(self)\n"),
     ("L28", "class C:\n    def __str__(self):\n        if self:\n            return 'a'\n"),
 ]
 KEPT = [
@@ -54,7 +58,7 @@ KEPT = [
     "class E(ValueError):\n    def __init__(self, spot):\n        self.spot = spot\n\n\nclass D:\n    def __init__(self):\n        self._rows = ()\n\n"
     "    @property\n    def rows(self):\n        return self._rows\n\n    def __eq__(self, other):\n        return isinstance(other, D) and self._rows == other._rows\n\n"
     "    def __str__(self):\n        return f\"{len(self._rows)} rows\"\n",
-    "def f(d, x):\n    key = (1, *x)\n    d[key] = 2\n    return [*x, d.get((2, *x), d[key])]\n",
+    "def f(d, x):\n    key = (1, *x)\n    d[key] = 2\n    return [*x, d.get((2, *x), d[key]), f(*x), f(*[d, x])]\n",
     "def each(xs):\n    for x in xs:\n        yield x\n\n\ndef f(xs):\n    found = {}\n    for x in each(xs):\n        found.setdefault(x, []).append(10 ** 60)\n"
     "    first, *others = sorted(found)\n    for _ in range(3):\n        others.append(first)\n    return len(set(others)) > 2 and 1 not in {2, 3}\n",
 ]

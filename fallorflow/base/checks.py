@@ -100,6 +100,13 @@ def is_lot(many, most, value):
     return are_rows_within(TOO_LONG - 1, many + 1, most, value)
 
 
+def is_long_lot(many, most, value):
+    """Whether the value is a tuple of at most so many forms over many unknowns, with integers of any length."""
+    if not isinstance(value, tuple) or len(value) > most:
+        return False
+    return all([is_long_row(many + 1, row) for row in value])
+
+
 def check_lot(many, most, rows):
     """Refuse what is no tuple of at most so many forms over many unknowns."""
     if not is_lot(many, most, rows):

@@ -27,7 +27,7 @@ class Account:
     def ask_item(self, at, item):
         """What an open item is due has a sum."""
         cells = self.inquiry.own_form(item.source, item.many)
-        for callee, arguments in item.calls:
+        for callee, arguments in item.followed:
             self.inquiry.take_away(cells, callee, arguments)
         cells[0][ONE] = -item.price
         self.sums[("item", at)] = self.inquiry.ask_sum(cells, item.rows, SIGNED)

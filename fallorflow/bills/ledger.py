@@ -15,21 +15,21 @@ class Item:
         self.source = system.rules[rule][0]
         self.many, self.rows = told_ahead(system, keep, rule, max(0, number - 1))
         self.price = price
-        self.calls = []
+        self.followed = []
         for at in numbers:
             callee, forms = system.rules[rule][4][at]
-            self.calls.append((callee, [grown(form, self.many) for form in forms]))
+            self.followed.append((callee, [grown(form, self.many) for form in forms]))
 
     def due(self, scale, forms):
         """What the item is due, by a scale and a form for each function."""
         total = grown(forms[self.source], self.many)
-        for callee, inner in self.calls:
+        for callee, inner in self.followed:
             total = added(total, scaled(-1, put(forms[callee], inner, self.many)))
         return (total[0] - scale * self.price, *total[1:])
 
     def brought(self, vector):
         """The pairs of a callee and of what the item brings to it by a vector."""
-        return [(callee, (vector[0], *[at_vector(form, vector) for form in inner])) for callee, inner in self.calls]
+        return [(callee, (vector[0], *[at_vector(form, vector) for form in inner])) for callee, inner in self.followed]
 
 
 class Ledger:
@@ -45,7 +45,7 @@ class Ledger:
         found = {}
         for item in self.lines:
             found[item.source] = True
-            for callee, _ in item.calls:
+            for callee, _ in item.followed:
                 found[callee] = True
         return sorted(found)
 

@@ -58,7 +58,8 @@ def inductive(system, keep):
     return ("inductive", tuple(sums))
 
 
-def _are_sums(system, keep, value):
+def are_sums_for(system, keep, value):
+    """Whether the value is a tuple of a sum for each duty of a keep, in their sequence."""
     if not isinstance(value, tuple):
         return False
     at = 0
@@ -87,7 +88,7 @@ def is_inductive_paper(system, keep, value):
     if not isinstance(value, tuple) or not value or not isinstance(value[0], str):
         return False
     if value[0] == "inductive":
-        return len(value) == 2 and _are_sums(system, keep, value[1])
+        return len(value) == 2 and are_sums_for(system, keep, value[1])
     return value[0] == "not" and len(value) == 3 and _does_show(system, keep, value[1], value[2])
 
 
@@ -178,7 +179,7 @@ def is_greatest_paper(system, keep, other, value):
         if not isinstance(drop, tuple) or len(drop) != 2 or not _does_show(system, left, drop[0], drop[1]):
             return False
         left = _without_row(system, left, drop[0])
-    return left == other and _are_sums(system, left, value[0])
+    return left == other and are_sums_for(system, left, value[0])
 
 
 def _united_lots(one, other):
@@ -190,7 +191,7 @@ def united(system, one, first, other, second):
     check_system(system)
     for keep, sums in ((one, first), (other, second)):
         check_keep(system, keep)
-        if not _are_sums(system, keep, sums):
+        if not are_sums_for(system, keep, sums):
             raise InvalidOperation("not the sums of a paper that the keep is inductive")
     union = (_united_lots(one[0], other[0]), _united_lots(one[1], other[1]))
     if any([len(lot) > MAX_KEPT for lot in (*union[0], *union[1])]):

@@ -157,6 +157,26 @@ def _runs_on(standing, ahead, stretch, most):
         yield from _runs_on(behind, longer, stretch, left)
 
 
+def course_of(system, inputs, value, most):
+    """For each beginning of a run the triple of its cost, the events of its last step, and the call worked next.
+
+    None if the values are no inputs, or no run from them of at most so many choices.
+    """
+    if not is_short_row(system.functions[0][1], inputs) or first_below(system.start_rows, inputs) is not None:
+        return None
+    if not isinstance(value, tuple) or len(value) > most:
+        return None
+    call, pile, cost = (0, inputs), (), 0
+    found = [(cost, [("enter", None, 0, inputs)], call)]
+    for choice in value:
+        if not is_choice(system, choice) or hindrance(system, call, choice) is not None:
+            return None
+        call, pile, _, events = worked(system, call, pile, choice)
+        cost = cost + system.rules[choice[0]][3]
+        found.append((cost, events, call))
+    return found
+
+
 def events_of(system, inputs, choices):
     """The events of a run in their sequence, the first call being entered with None.
 

@@ -1,5 +1,5 @@
 """Systems of functions and rules, their call edges, keeps, and rows ahead of calls."""
-from fallorflow.base.checks import is_ascending, is_from, is_lot
+from fallorflow.base.checks import is_ascending, is_from, is_long_lot, is_lot
 from fallorflow.base.plain import grown, put, unit
 from fallorflow.errors import InvalidKeep, InvalidNumber, InvalidSystem
 from fallorflow.rules.faults import functions_fault, given_fault, rules_fault
@@ -95,7 +95,8 @@ def edge_goal(system, edge):
     return system.rules[edge[0]][4][edge[1]][0]
 
 
-def _is_edge(system, value):
+def is_edge_of(system, value):
+    """Whether the value is a call edge of a system."""
     if not isinstance(value, tuple) or len(value) != 2 or not is_from(0, len(system.rules) - 1, value[0]):
         return False
     return is_from(0, len(system.rules[value[0]][4]) - 1, value[1])
@@ -103,16 +104,19 @@ def _is_edge(system, value):
 
 def check_edge(system, edge):
     """Refuse what is no call edge of the system."""
-    if not _is_edge(system, edge):
+    if not is_edge_of(system, edge):
         raise InvalidSystem("not a call edge of the system")
+
+
+def are_edges_of(system, value):
+    """Whether the value is an ascending tuple of call edges of a system."""
+    return isinstance(value, tuple) and all([is_edge_of(system, edge) for edge in value]) and is_ascending(value)
 
 
 def check_edges(system, edges):
     """Refuse what is no ascending tuple of call edges of the system."""
-    if not isinstance(edges, tuple) or not all([_is_edge(system, edge) for edge in edges]):
-        raise InvalidSystem("not a tuple of call edges of the system")
-    if not is_ascending(edges):
-        raise InvalidSystem("the call edges are not ascending")
+    if not are_edges_of(system, edges):
+        raise InvalidSystem("not an ascending tuple of call edges of the system")
 
 
 def edges(system):
@@ -164,16 +168,29 @@ def reached(system, edges):
 def is_keep(system, value):
     """Whether the value is a keep of the system."""
     check_system(system)
+    if not _has_lots(system, value):
+        return False
+    for further, lots in enumerate(value):
+        if not all([is_lot(pair[1] + further, MAX_KEPT, lot) for pair, lot in zip(system.functions, lots)]):
+            return False
+    return True
+
+
+def _has_lots(system, value):
+    # Rows of entries are over the parameters, those of results over one more value.
     if not isinstance(value, tuple) or len(value) != 2:
         return False
-    return all([_are_lots(system, further, lots) for further, lots in enumerate(value)])
+    return all([isinstance(lots, tuple) and len(lots) == len(system.functions) for lots in value])
 
 
-def _are_lots(system, further, value):
-    # Rows of entries are over the parameters, those of results over one more value.
-    if not isinstance(value, tuple) or len(value) != len(system.functions):
+def is_long_keep(system, value):
+    """Whether the value is a keep of a system, but for integers of any length."""
+    if not _has_lots(system, value):
         return False
-    return all([is_lot(pair[1] + further, MAX_KEPT, lot) for pair, lot in zip(system.functions, value)])
+    for further, lots in enumerate(value):
+        if not all([is_long_lot(pair[1] + further, MAX_KEPT, lot) for pair, lot in zip(system.functions, lots)]):
+            return False
+    return True
 
 
 def check_keep(system, keep):

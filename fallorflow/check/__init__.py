@@ -1,0 +1,1 @@
+"""Claims, a checker that takes their papers, and whole answers."""

@@ -1,0 +1,1 @@
+"""What goes on for ever: rings of calls, and plain counters."""

@@ -1,0 +1,1 @@
+"""What small systems cost, just so."""

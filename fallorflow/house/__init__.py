@@ -1,0 +1,1 @@
+"""Edits of systems, reports, and a bench that keeps what is known."""
