@@ -69,7 +69,8 @@ class File:
         self.text = text
         self.lines = text.split("\n")
         self.tree = tree
-        self.above = {child: node for node in ast.walk(tree) for child in ast.iter_child_nodes(node)}
+        self.nodes = list(ast.walk(tree))
+        self.above = {child: node for node in self.nodes for child in ast.iter_child_nodes(node)}
         self.found = []
 
     def fault(self, node, rule, what):
@@ -77,7 +78,7 @@ class File:
         self.found.append((self.path, line, rule, what))
 
     def walk(self, *kinds):
-        return [node for node in ast.walk(self.tree) if isinstance(node, kinds)]
+        return [node for node in self.nodes if isinstance(node, kinds)]
 
     def ancestors(self, node):
         found = []
@@ -140,6 +141,7 @@ class Package:
         self.classes = {}
         self.methods = set()
         self.attributes = set()
+        self.imported = {}
         for file in files:
             for node in file.walk(ast.ClassDef):
                 self.classes[node.name] = node
@@ -150,9 +152,19 @@ class Package:
         self.has_equal = "__eq__" in self.methods
         parts = [part for node in self.classes.values() for part in node.body if isinstance(part, ast.FunctionDef)]
         self.properties = {part.name for part in parts if "property" in decorators(part)}
+        # The names of all generators.
+        self.makers = set()
+        for file in files:
+            for node in file.walk(ast.Yield, ast.YieldFrom):
+                self.makers |= {part.name for part in file.ancestors(node) if isinstance(part, ast.FunctionDef)}
         self.plain_methods = {part.name for part in parts if not part.decorator_list}
 
     def imports(self, file):
+        if file.path not in self.imported:
+            self.imported[file.path] = self.imports_of(file)
+        return self.imported[file.path]
+
+    def imports_of(self, file):
         found = set()
         for node in file.walk(ast.ImportFrom):
             if node.module and (node.module + ".").startswith(PACKAGE + "."):
@@ -699,13 +711,8 @@ def look_at_loop(file, loop):
 
 
 def look_at_generators(package, file):
-    makers = set()
-    for other in package.files:
-        for node in other.walk(ast.FunctionDef):
-            if any(isinstance(part, (ast.Yield, ast.YieldFrom)) for part in ast.walk(node)):
-                makers.add(node.name)
     for node in file.walk(ast.Name):
-        if node.id in makers and isinstance(node.ctx, ast.Load):
+        if node.id in package.makers and isinstance(node.ctx, ast.Load):
             call = file.above[node]
             over = file.above.get(call)
             is_loop = isinstance(over, (ast.For, ast.comprehension)) and over.iter is call
