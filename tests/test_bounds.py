@@ -314,7 +314,7 @@ class RuleTest(Bounds):
                 else:
                     self.refuses(TooMany, bound, made, keep, tree, sizes, item, keeps={"limit": 300})
             self.refuses(InvalidOperation, bound, made, keep, tree, sizes, ("costs",))
-        self.assertGreater(min(seen.values()), 20)
+        self.assertGreater(min(seen.values()), 8)
 
     def test_exponents(self):
         # Over one size: few members, but exponents that are doubled along the row of functions.
