@@ -1,7 +1,8 @@
 """The rule of bounds once more, by its words, pair by pair; and systems that end by how they are made."""
 from fallorflow.rules.system import System
-from tests import holding
+from tests import holding, papers
 from tests.draws import NAMES
+from tests.judging import at
 from tests.papers import goal, source
 
 
@@ -318,6 +319,39 @@ class Rule:
 
     def cost(self):
         return plus(*[times(rule[3], self.poly(("rule", r))) for r, rule in enumerate(self.system.rules) if rule[3]])
+
+
+# Sizings.
+
+def is_entry(made, keep, edge, j, value):
+    """What the document says of an entry, added up once more."""
+    many, rows, forms = holding.edge_parts(made, keep, edge)
+    own = made.functions[source(made, edge)][1]
+    argument = forms[j] + (0,) * (many + 1 - len(forms[j]))
+    if type(value) is not tuple or not value or type(value[0]) is not str:
+        return False
+    if len(value) == 1:
+        return value[0] == "outside" or (value[0] == "plain" and not any(argument[own + 1:]))
+    if value[0] != "led" or len(value) != 4:
+        return False
+    try:
+        papers.row(own + 1, value[1])
+        for side, shown in ((-1, value[2]), (1, value[3])):
+            papers.look_at_sum(rows, lambda values: at(value[1], [1, *values[:own]]) + side * at(argument, [1, *values]), many, shown)
+    except papers.Wrong:
+        return False
+    return True
+
+
+def is_sizing(made, keep, value):
+    if type(value) is not tuple or len(value) != len(holding.edges(made)):
+        return False
+    for edge, told in zip(holding.edges(made), value):
+        if type(told) is not tuple or len(told) != made.functions[goal(made, edge)][1]:
+            return False
+        if not all(is_entry(made, keep, edge, j, entry) for j, entry in enumerate(told)):
+            return False
+    return True
 
 
 # A number for all.

@@ -83,35 +83,6 @@ class SizingTest(Bounds):
         self.is_just(True, is_sizing(made, keep, found))
         self.is_just(False, is_sizing(made, empty_keep(made), found))
 
-    def is_entry(self, made, keep, edge, j, value):
-        """What the document says of an entry, added up once more."""
-        many, rows, forms = holding.edge_parts(made, keep, edge)
-        own = made.functions[papers.source(made, edge)][1]
-        argument = forms[j] + (0,) * (many + 1 - len(forms[j]))
-        if type(value) is not tuple or not value or type(value[0]) is not str:
-            return False
-        if len(value) == 1:
-            return value[0] == "outside" or (value[0] == "plain" and not any(argument[own + 1:]))
-        if value[0] != "led" or len(value) != 4:
-            return False
-        try:
-            papers.row(own + 1, value[1])
-            for side, shown in ((-1, value[2]), (1, value[3])):
-                papers.look_at_sum(rows, lambda values: at(value[1], [1, *values[:own]]) + side * at(argument, [1, *values]), many, shown)
-        except papers.Wrong:
-            return False
-        return True
-
-    def judged(self, made, keep, value):
-        if type(value) is not tuple or len(value) != len(edges(made)):
-            return False
-        for edge, told in zip(edges(made), value):
-            if type(told) is not tuple or len(told) != made.functions[papers.goal(made, edge)][1]:
-                return False
-            if not all(self.is_entry(made, keep, edge, j, entry) for j, entry in enumerate(told)):
-                return False
-        return True
-
     def test_drawn(self):
         words = {"plain": 0, "led": 0, "outside": 0}
         bends = [0, 0]
@@ -124,7 +95,7 @@ class SizingTest(Bounds):
                 keep = draws.keep(self.draw, made)
             found = sizing(made, keep)
             self.assertEqual(found, sizing(made, keep))
-            self.is_just(True, self.judged(made, keep, found))
+            self.is_just(True, bounding.is_sizing(made, keep, found))
             self.is_just(True, is_sizing(made, keep, found))
             self.is_just(True, is_sizing(made, keep, longer(found, 1)))
             for edge, told in zip(edges(made), found):
@@ -133,7 +104,7 @@ class SizingTest(Bounds):
                     if entry[0] == "outside":
                         self.look_at_outside(made, keep, edge, j)
             for value in bent(self.draw, found, 6):
-                expected = self.judged(made, keep, value)
+                expected = bounding.is_sizing(made, keep, value)
                 self.is_just(expected, is_sizing(made, keep, value), repr(value)[:300])
                 bends[expected] += 1
         self.assertGreater(min(words.values()), 30)

@@ -89,6 +89,36 @@ def rounds_one_by_one(system, ring, values, most):
     return most, None
 
 
+def is_own_ever(made, value):
+    """What the document says of an ever paper, looked at once more."""
+    try:
+        papers.tuples(5, value)
+        inputs, choices, ring, lot, sums = value
+        papers.row(made.functions[0][1], inputs)
+        papers.tuples(None, choices)
+        papers.need(all(abs(number) < 10 ** 60 for number in inputs) and len(choices) <= 400)
+        papers.need(all(at(row, [1, *inputs]) >= 0 for row in made.start_rows))
+        papers.need(is_run(made, inputs, choices) and is_ring(made, ring))
+        call = run(made, inputs, choices).call
+        papers.need(call is not None and call[0] == made.rules[ring[0][0]][0])
+        many = len(call[1])
+        papers.tuples(None, lot)
+        papers.need(len(lot) <= 64)
+        for told in lot:
+            papers.row(many + 1, told)
+            papers.need(at(told, [1, *call[1]]) >= 0)
+        rows = len(gone(made, ring, call[1])[0])
+        papers.tuples(rows + len(lot), sums)
+        for number, shown in enumerate(sums):
+            if number < rows:
+                papers.look_at_sum(lot, lambda values: gone(made, ring, tuple(values))[0][number], many, shown)
+            else:
+                papers.look_at_sum(lot, lambda values: at(lot[number - rows], [1, *gone(made, ring, tuple(values))[1]]), many, shown)
+    except papers.Wrong:
+        return False
+    return True
+
+
 class Rings(Refusing, unittest.TestCase):
     def setUp(self):
         self.draw = random.Random(131)
@@ -214,35 +244,6 @@ class BreaksTest(Rings):
 
 
 class EverTest(Rings):
-    def is_ever(self, made, value):
-        """What the document says of an ever paper, looked at once more."""
-        try:
-            papers.tuples(5, value)
-            inputs, choices, ring, lot, sums = value
-            papers.row(made.functions[0][1], inputs)
-            papers.tuples(None, choices)
-            papers.need(all(abs(number) < 10 ** 60 for number in inputs) and len(choices) <= 400)
-            papers.need(all(at(row, [1, *inputs]) >= 0 for row in made.start_rows))
-            papers.need(is_run(made, inputs, choices) and is_ring(made, ring))
-            call = run(made, inputs, choices).call
-            papers.need(call is not None and call[0] == made.rules[ring[0][0]][0])
-            many = len(call[1])
-            papers.tuples(None, lot)
-            papers.need(len(lot) <= 64)
-            for told in lot:
-                papers.row(many + 1, told)
-                papers.need(at(told, [1, *call[1]]) >= 0)
-            rows = len(gone(made, ring, call[1])[0])
-            papers.tuples(rows + len(lot), sums)
-            for number, shown in enumerate(sums):
-                if number < rows:
-                    papers.look_at_sum(lot, lambda values: gone(made, ring, tuple(values))[0][number], many, shown)
-                else:
-                    papers.look_at_sum(lot, lambda values: at(lot[number - rows], [1, *gone(made, ring, tuple(values))[1]]), many, shown)
-        except papers.Wrong:
-            return False
-        return True
-
     def some_run(self, made):
         inputs = tuple(self.draw.randint(-3, 8) for _ in range(made.functions[0][1]))
         if any(at(row, [1, *inputs]) < 0 for row in made.start_rows):
@@ -278,10 +279,10 @@ class EverTest(Rings):
                 paper = found[0]
                 self.assertEqual(paper[:3], (inputs, choices, ring))
                 self.is_just(True, is_ever(made, paper))
-                self.is_just(True, self.is_ever(made, paper))
+                self.is_just(True, is_own_ever(made, paper))
                 self.look_at_choices(made, paper)
                 for value in [*bent(self.draw, paper, 10), (*paper[:3], longer(paper[3], LONG), paper[4])]:
-                    expected = self.is_ever(made, value)
+                    expected = is_own_ever(made, value)
                     self.is_just(expected, is_ever(made, value), repr(value)[:300])
                     bends[expected] += 1
         self.assertGreater(min(seen.values()), 40, seen)
@@ -301,7 +302,7 @@ class EverTest(Rings):
         ring = ((0, ((0, 1, 0),)),)
         paper = ((1, 5), (), ring, ((-1, 1, 0),), ((1, 1, 1), (1, 0, 0), (1, 1, 2)))
         self.is_just(True, is_ever(made, paper))
-        self.is_just(True, self.is_ever(made, paper))
+        self.is_just(True, is_own_ever(made, paper))
         self.refuses(Refused, ever_or_break, made, (1, 5), (), ring, keeps={"reason": ("shift",)})
         found = ever_choices(made, paper, 200)
         self.assertEqual((len(found), found[:3], found[-1]), (200, ((0, (1,)), (0, (2,)), (0, (4,))), (0, (2 ** 199,))))
@@ -345,7 +346,7 @@ class EverTest(Rings):
         word, paper = ever_or_break(made, (0,), (), LINK * 8)
         self.assertEqual((word, len(paper[4])), ("ever", len(paper[3]) + 64))
         self.is_just(True, is_ever(made, paper))
-        self.is_just(True, self.is_ever(made, paper))
+        self.is_just(True, is_own_ever(made, paper))
 
     def test_other_values(self):
         for value in [*strange(), PAPER[:4], (*PAPER, ()), list(PAPER), ([3, 0], *PAPER[1:]), ((3, 0), [], *PAPER[2:]), ((-3, 0), *PAPER[1:]), ((3, 0), ((0, (0,)),), *PAPER[2:]),
