@@ -1,4 +1,4 @@
-"""Which functions, classes and methods of the document stand in which file, as far as they have landed."""
+"""Which functions, classes and methods of the document stand in which file."""
 
 INTERFACE = {
     "fallorflow.errors": (
@@ -35,4 +35,17 @@ INTERFACE = {
         "least_bill is_least_bill worth lot_items shared is_shared is_split visits").split(),
     "fallorflow.bounds.polys": (
         "MAX_TERMS MAX_EXPONENT is_poly poly_sum poly_product poly_join poly_at does_cover").split(),
+    "fallorflow.bounds.bounds": "MOST_ROUNDS sizing is_sizing bound is_refusal steps_at_most".split(),
+    "fallorflow.ever.rings": (
+        "MOST_LINKS MOST_ROUNDS MOST_PICK is_ring round_of shift_of rounds_from first_break ever_or_break is_ever ever_choices").split(),
+    "fallorflow.ever.counters": (
+        "MOST_WALK MOST_MOVES are_counters moves turns_or_shelves is_turns is_shelf_tree walk_of need_of walk_ring").split(),
+    "fallorflow.exact.costs": "MOST_CALLS MOST_STRETCH entered_calls exact_cost is_table is_round".split(),
+    "fallorflow.check.checker": "kinds is_claim opposite takes".split(),
+    "fallorflow.check.answers": "MOST_LINKS MOST_RINGS ending costing bounding priced gone_round survey".split(),
+    "fallorflow.house.edits": "tightened loosened led_on".split(),
+    "fallorflow.house.report": "broken_at watch_text".split(),
+    "fallorflow.house.bench": (
+        "MOST_NOTES MOST_CALLS Bench Bench.__init__ Bench.system Bench.notes Bench.standing Bench.calls Bench.note Bench.tighten "
+        "Bench.loosen Bench.put Bench.watch Bench.undo Bench.twin Bench.__len__ Bench.__eq__ Bench.__str__").split(),
 }

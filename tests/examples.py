@@ -1,8 +1,4 @@
-"""The examples of the document that the package can run so far, sign by sign.
-
-Of stages that are not written yet only the systems stand here: the document
-makes them, so they have no fault.
-"""
+"""The examples of the document, sign by sign, stage by stage."""
 
 FORMS = r'''
 >>> [value_at((3, -1, 2), (1, 4, 5)), value_at((3, -1, 2), (2, 4, 5)), value_at((3, -1, 2), (0, 1, 0)), lowest((4, 6, -2)), opposite((3, -1))]
@@ -107,16 +103,67 @@ raises Refused(('entry', 0))
 POLYS = r'''
 >>> [poly_product(1, {(0,): 1, (1,): 2}, {(1,): 3}), poly_join(2, {(1, 0): 2}, {(1, 0): 1, (0, 1): 4}), poly_at(2, {(1, 1): 2, (0, 0): 1}, (3, 4))]
 [{(1,): 3, (2,): 6}, {(0, 1): 4, (1, 0): 2}, 25]
+>>> DOWN, NONE = System((("f", 1),), ((0, 0, ((-1, 1),), 1, ((0, ((-1, 1),)),), (0, 0, 0)),)), ((((),), ((),)))
+>>> TREE, SIZES = ((((0, 0),), (((0, 0), (((-1, 1),), ((1, 0, 0), (1, 0, 1)))),), ()),), ((("led", (0, 1), (1, 1, 0), (1, 1, 2)),),)
+>>> [bound(DOWN, NONE, TREE, SIZES, ("cost",)), bound(DOWN, NONE, TREE, SIZES, ("size", (0, 0), 0)), steps_at_most(DOWN, NONE, TREE, SIZES, (4,))]
+[('within', {(1,): 1}), ('within', {(1,): 1}), ('steps', 7)]
+>>> bound(DOWN, NONE, TREE, ((("outside",),),), ("size", (0, 0), 0))
+('refused', (('size', (0, 0), 0),))
 '''
 
-LATER = r'''
+RINGS = r'''
 >>> GROW = System((("f", 2),), ((0, 1, ((0, 1, 0, 0), (-1, 0, 0, 1)), 1, ((0, ((0, 1, 0, 0), (0, 0, 1, 1))),), (0, 0, 0, 0, 0)),))
+>>> RING = ((0, ((1, 0, 0),)),)
+>>> [is_ring(GROW, RING), round_of(GROW, RING), shift_of(GROW, RING), first_break(GROW, RING, (3, 0)), first_break(GROW, RING, (-3, 0))]
+[True, (((0, 1, 0), (0, 0, 0)), ((0, 1, 0), (1, 0, 1))), (0, 1), None, (0, 0)]
 >>> DOWN = System((("f", 1),), ((0, 0, ((-2, 1),), 1, ((0, ((-3, 1),)),), (0, 0, 0)),))
+>>> [first_break(DOWN, ((0, ()),), (10,)), rounds_from(DOWN, ((0, ()),), (10,), 2), ever_or_break(DOWN, (10,), (), ((0, ()),))]
+[(3, 0), (2, None), ('breaks', 3, 0)]
+>>> word, paper = ever_or_break(GROW, (3, 0), (), RING)
+>>> [word, is_ever(GROW, paper), len(ever_choices(GROW, paper, 5)), is_ever(GROW, ((3, 0), (), RING, ((0, 1, 0),), ((1, 0, 1), (1, 0, 0), (1, 0, 1))))]
+['ever', True, 5, True]
+'''
+
+COUNTERS = r'''
 >>> PAIR = System((("f", 2), ("g", 2)), ((0, 0, ((0, 1, 0), (0, 0, 1)), 1, ((1, ((-2, 1, 0), (1, 0, 1))),), (0, 0, 0, 0)), (1, 0, ((0, 1, 0), (0, 0, 1)), 1, ((0, ((2, 1, 0), (-1, 0, 1))),), (0, 0, 0, 0)), (0, 0, ((0, 1, 0), (-1, 0, 1)), 1, ((0, ((0, 1, 0), (-1, 0, 1))),), (0, 0, 0, 0))))
+>>> [are_counters(PAIR), moves(PAIR), is_turns(PAIR, ((0, 1), (1, 1))), is_turns(PAIR, ((0, 1), (1, 1), (2, 1))), need_of(PAIR, (0, 1)), need_of(PAIR, (1, 0))]
+[True, (0, 1, 2), True, False, (2, 0), (0, 1)]
+>>> [turns_or_shelves(PAIR)[0], sorted(walk_of(PAIR, ((0, 1), (1, 1)))), walk_ring(PAIR, (0, 1))]
+['turns', [0, 1], ((0, ()), (1, ()))]
 >>> LESS = System((("f", 1),), ((0, 0, ((-1, 1),), 1, ((0, ((-1, 1),)),), (0, 0, 0)),))
+>>> [turns_or_shelves(LESS)[0], is_shelf_tree(LESS, (((0,), ((1,), (0,)), ()),)), is_shelf_tree(LESS, ()), is_shelf_tree(LESS, (((0,), ((0,), (5,)), ()),))]
+['shelves', True, False, False]
+'''
+
+COSTS = r'''
 >>> TWICE = System((("f", 1),), ((0, 0, ((-1, 1),), 1, ((0, ((-1, 1),)), (0, ((-1, 1, 0),))), (0, 0, 0, 0)), (0, 0, ((0, -1),), 1, (), (0, 0))))
+>>> [exact_cost(TWICE, (10,), 0)[:2], entered_calls(TWICE, (2,), 0), is_table(TWICE, (0,), 0, {(0, (0,)): (0, 1, 1)})]
+[('most', 2047), ((0, (0,)), (0, (1,)), (0, (2,))), True]
+>>> exact_cost(System((("f", 0),), ((0, 0, (), 0, ((0, ()),), (0, 0)),)), (), 0)[0]
+'round'
+'''
+
+CLAIMS = r'''
 >>> DOWN = System((("f", 1),), ((0, 0, ((-1, 1),), 1, ((0, ((-1, 1),)),), (0, 0, 0)), (0, 0, ((0, -1),), 0, (), (0, 0))), ((0, 1),))
+>>> HELD, SUMS = ((((0, 1),),), ((),)), ((1, 0, 0, 1), (1, 0, 1))
+>>> TREE = ((((0, 0),), (((0, 0), (((0, 1),), ((1, 0, 0, 0), (1, 0, 1, 0)))),), ()),)
+>>> [takes(("holds", DOWN, 0, 0, (0, 1)), (HELD, SUMS)), takes(("ends", DOWN), (HELD, SUMS, ((0, 0),), (), TREE)), opposite(("ends", DOWN))[0]]
+[True, True, 'for ever']
+>>> [takes(("more", DOWN, (3,), 2), ((0, ()), (0, ()), (0, ()))), takes(("more", DOWN, (3,), 3), ((0, ()), (0, ()), (0, ()))), takes(("chosen", DOWN, 1), ((0,), ((1, ()),)))]
+[True, False, True]
+>>> [is_claim(("at most", DOWN, (-1,), 5)), is_claim(("holds", DOWN, 1, 0, (0, 1))), takes(("bar", 1, ((-1, 1), (0, -1))), (1, 1)), len(kinds())]
+[False, False, True, 25]
+'''
+
+ANSWERS = r'''
 >>> TWICE = System((("f", 1),), ((0, 0, ((-2, 1),), 1, ((0, ((-1, 1),)), (0, ((-2, 1, 0),))), (0,) * 4), (0, 0, ((1, -1),), 1, (), (0, 0))), ((0, 1),))
+>>> [survey(TWICE, empty_keep(TWICE)), len(ending(TWICE, empty_keep(TWICE))), priced(TWICE, empty_keep(TWICE), (3,))]
+[{'bill': 'cropped', 'bound': 'refused', 'ending': 'ends'}, 1, ()]
 >>> ONCE = System((("f", 1),), ((0, 0, ((-1, 1),), 2, ((0, ((-1, 1),)),), (0,) * 3), (0, 0, ((0, 1),), 1, (), (0, 0))), ((0, 1),))
+>>> ROWS = ((((0, 1),),), ((),))
+>>> [survey(ONCE, ROWS), [claim[0] for claim, paper in priced(ONCE, ROWS, (3,))], priced(ONCE, ROWS, (3,))[1][0][3]]
+[{'bill': 'billed', 'bound': 'within', 'ending': 'ends'}, ['least', 'at most'], 7]
 >>> RISE = System((("f", 1),), ((0, 1, ((0, 1, 0), (0, 0, 1)), 1, ((0, ((0, 1, 1),)),), (0,) * 4),), ((0, 1),))
+>>> [survey(RISE, ROWS), gone_round(RISE, (2,), (), 1)[0][0][0], gone_round(ONCE, (2,), (), 2)]
+[{'bill': 'cropped', 'bound': 'open', 'ending': 'stays'}, 'for ever', None]
 '''
