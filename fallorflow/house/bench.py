@@ -36,18 +36,18 @@ class State:
     def __init__(self, system, notes, numbers):
         self.made = system
         self.pairs = notes
-        self.numbers = numbers
+        self.stood = numbers
 
     def noted(self, claim, paper):
         """The state with a further note, which stands."""
         notes = (*self.pairs, _note_alone((claim, paper)))
-        return State(self.made, notes, (*self.numbers, len(notes)))
+        return State(self.made, notes, (*self.stood, len(notes)))
 
     def edited(self, system, rule):
         """The state with another system; the rule that was tightened, or None."""
         notes = []
         for number, (claim, paper) in enumerate(self.pairs, start=1):
-            if rule is not None and number in self.numbers and claim[0] in LED:
+            if rule is not None and number in self.stood and claim[0] in LED:
                 paper = paper_led(claim, paper, rule)
             notes.append((claim_about(claim, system), paper))
         numbers = []
@@ -81,7 +81,7 @@ class Bench:
     @property
     def standing(self):
         """The numbers of the notes that stand, ascending."""
-        return self._states[-1].numbers
+        return self._states[-1].stood
 
     @property
     def calls(self):
@@ -127,7 +127,7 @@ class Bench:
         behind = state.edited(system, rule)
         self._states.append(behind)
         self._kept.append(call)
-        return tuple([number for number in state.numbers if number not in behind.numbers])
+        return tuple([number for number in state.stood if number not in behind.stood])
 
     def watch(self, inputs, choices):
         """The dict from the numbers of notes that are watched to where a run breaks them."""

@@ -8,6 +8,7 @@ from fallorflow.rules.machine import MOST_CHOICES, course_of, run
 
 WATCHED = ("holds", "never chosen", "at most", "within")
 NAMES = ("a", "b", "c", "d", "e")
+RESULT = "r"
 
 
 def is_watched(value):
@@ -77,7 +78,8 @@ def watch_text(claim):
         name, many = system.functions[function]
         if side == 0:
             return f"holds {name}: {form_text(row, NAMES[:many])} >= 0"
-        return f"holds result of {name}: {form_text(row, (*NAMES[:many], 'r'))} >= 0"
+        names = (*NAMES[:many], RESULT)
+        return f"holds result of {name}: {form_text(row, names)} >= 0"
     numbers = [claim[3]] if word == "at most" else list(claim[2].values())
     if any([number >= _longest() for number in numbers]):
         raise InvalidClaim("a claim with an integer of more than 1,000 digits")
