@@ -250,6 +250,9 @@ class KeepsTest(Answers):
         self.assertEqual(survey(half, empty_keep(half))["ending"], "stays")
         for x in range(-4, 5):
             self.assertIsNone(gone_round(half, (x,), (), 3))
+        # Further candidates, and the same poly.
+        polys = [bounding(ONCE, keep)[1][0][0][2] for keep in (ROWS, usual(ONCE))]
+        self.assertEqual(polys[0], polys[1])
 
 
 class GoneRoundTest(Answers):

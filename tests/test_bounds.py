@@ -6,13 +6,14 @@ from fallorflow.bounds.polys import is_poly, poly_at, poly_sum
 from fallorflow.errors import InvalidForm, InvalidKeep, InvalidOperation, InvalidSystem, TooMany
 from fallorflow.fall.trees import tree_or_stay
 from fallorflow.hold.keeps import greatest, usual
-from fallorflow.rules.machine import Standing, entered, tally
+from fallorflow.rules.machine import Standing
 from fallorflow.rules.steps import fitting
 from fallorflow.rules.system import System, edges, empty_keep
 from tests import bounding, draws, hidden, holding, papers
 from tests.bending import bent, longer
 from tests.bounding import unit
 from tests.judging import at
+from tests.nested import Nest
 from tests.values import Refusing, near_misses, strange
 
 LONG = 10 ** 80
@@ -187,11 +188,13 @@ class RuleTest(Bounds):
             self.is_just(self.is_refused(rule, item, value), is_refusal(made, keep, tree, sizes, item, value))
 
     def test_drawn(self):
-        seen, lots = {}, {"loops": 0, "deep": 0, "ranks": 0, "others": 0}
+        seen, lots = {}, {"loops": 0, "deep": 0, "ranks": 0, "others": 0, "growing": 0, "inner": 0, "outer": 0, "outside": 0, "free": 0, "none": 0, "first": 0, "second": 0, "both": 0,
+                          "pairs": 0, "gone": 0}
         for turn in range(170):
             made, keep, tree, sizes = self.some(*[(), (4, 8, 0.05, 0.1), (2, 6, 0.4, 0.5)][turn % 3])
             rule = self.look_at_all(made, keep, tree, sizes, seen)
             lots["loops"] += sum(len(loop) > 1 for loop in rule.loops)
+            self.look_at_kinds(made, rule, lots)
             ahead = list(tree)
             while ahead:
                 branch = ahead.pop()
@@ -202,6 +205,21 @@ class RuleTest(Bounds):
         self.assertGreater(min(lots.values()), 8, lots)
         for word in ("cost", "rule", "calls", "turns", "size"):
             self.assertGreater(min(seen[word, True], seen[word, False]), 20, seen)
+
+    def look_at_kinds(self, made, rule, lots):
+        """How often each thing comes that the rule tells of."""
+        ring_edges = [edge for edge in rule.edges if rule.ring_of(edge) is not None]
+        lots["growing"] += any(rule.grows(loop) for loop in rule.loops)
+        lots["inner"] += any(rule.inlets(edge)[1] for edge in ring_edges)
+        lots["outer"] += any(rule.inlets(edge)[0] not in ([], ["start"]) for edge in ring_edges)
+        lots["outside"] += bool(rule.rings) and rule.ring_at(0) is None
+        lots["free"] += any(told[3] == 0 for told in made.rules)
+        lots["pairs"] += any(rule.loop_of(pair) is None for pair in rule.pairs if pair[0] in ring_edges)
+        lots["gone"] += any(rule.ring_at(function) is None for function in range(1, len(made.functions)))
+        for index, told in enumerate(made.rules):
+            if len(told[4]) == 2:
+                here = tuple((index, number) in ring_edges for number in (0, 1))
+                lots[{(False, False): "none", (True, False): "first", (False, True): "second", (True, True): "both"}[here]] += 1
 
     def test_other_sizings(self):
         # Other right entries: "outside", forms of other numbers, "led" in the place of "plain".
@@ -366,6 +384,19 @@ class RunsTest(Bounds):
             standing = standing.after(choice)
         return standing, tuple(choices)
 
+    def met_in(self, made, inputs, choices):
+        """What comes in a run, by a machine of the tests' own: counts, calls, sizes, and what is paid."""
+        calls = Nest(made, inputs, choices).calls
+        met = {COST: sum(made.rules[call.rule][3] for call in calls if call.rule is not None)}
+        for call in calls:
+            if call.rule is not None:
+                met["rule", call.rule] = met.get(("rule", call.rule), 0) + 1
+            if call.edge is not None:
+                met["calls", call.edge] = met.get(("calls", call.edge), 0) + 1
+                for j, number in enumerate(call.values):
+                    met["size", call.edge, j] = max(abs(number), met.get(("size", call.edge, j), 0))
+        return met
+
     def test_along_runs(self):
         seen = {"calls": 0, "size": 0, "rule": 0, "cost": 0, "steps": 0}
         reached = 0
@@ -394,13 +425,8 @@ class RunsTest(Bounds):
                     continue
                 told = tuple(map(abs, inputs))
                 standing, choices = self.walk(made, inputs, self.draw.choice([4, 15, 50]))
-                counts, calls = tally(made, inputs, choices)
-                met = {("cost",): standing.cost}
-                met.update({("rule", rule): number for rule, number in counts.items()})
-                met.update({("calls", edge): number for edge, number in calls.items()})
-                for edge, values in entered(made, inputs, choices)[1:]:
-                    for j, number in enumerate(values):
-                        met["size", edge, j] = max(abs(number), met.get(("size", edge, j), 0))
+                met = self.met_in(made, inputs, choices)
+                self.assertEqual(met[COST], standing.cost)
                 for item, number in met.items():
                     if item in polys:
                         greatest_one = poly_at(many, polys[item], told)

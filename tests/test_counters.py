@@ -5,6 +5,7 @@ import unittest
 from fallorflow.errors import InvalidOperation, InvalidSystem, Refused, TooMany
 from fallorflow.ever.counters import are_counters, is_shelf_tree, is_turns, moves, need_of, turns_or_shelves, walk_of, walk_ring
 from fallorflow.ever.rings import first_break, is_ring, round_of, shift_of
+from fallorflow.exact.costs import exact_cost
 from fallorflow.fall.trees import tree_or_stay
 from fallorflow.rules.machine import Standing
 from fallorflow.rules.system import System, edges, empty_keep
@@ -314,9 +315,13 @@ class EitherOrTest(Counters):
         self.assertEqual(need_of(PAIR, (0, 1)), (2, 0))
         self.assertIsNone(self.gone(PAIR, (0, 1), (1, 5)))
         self.assertIsNotNone(self.gone(PAIR, (0,), (1, 5)))
-        # Not every move asks every counter: no plain counters, and no run without end.
-        made = System((("f", 2), ("g", 2)), ((0, 0, ((0, 1, 0),), 1, ((1, ((-1, 1, 0), (1, 0, 1))),), (0,) * 4), (1, 0, ((0, 0, 1),), 1, ((0, ((1, 1, 0), (-1, 0, 1))),), (0,) * 4)))
+        # Not every move asks every counter: each move has turns that lose nothing of what it asks, and no run goes on
+        # for ever, as 3 x + 2 y falls along both.
+        made = System((("f", 2),), ((0, 0, ((0, 1, 0),), 1, ((0, ((-1, 1, 0), (1, 0, 1))),), (0,) * 4), (0, 0, ((0, 0, 1),), 1, ((0, ((1, 1, 0), (-2, 0, 1))),), (0,) * 4)))
         self.is_just(False, are_counters(made))
+        for x in range(5):
+            for y in range(5):
+                self.assertEqual(exact_cost(made, (x, y), 0)[0], "most")
 
 
 class JudgesTest(Counters):
