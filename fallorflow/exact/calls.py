@@ -26,7 +26,7 @@ class Way:
     """A rule, for its choices: what unknowns add to the rows of its guard, and to its arguments."""
 
     def __init__(self, system, index, stretch):
-        self.index = index
+        self.rule = index
         function, unknowns, guard, self.price, calls, _ = system.rules[index]
         first = system.functions[function][1] + 1
         self.first = first
@@ -52,7 +52,7 @@ class Way:
         for added, choices in self.groups.items():
             numbers = _first_fitting(choices, least)
             if numbers is not None:
-                found.append(((self.index, numbers), self.calls_at(base, added)))
+                found.append(((self.rule, numbers), self.calls_at(base, added)))
         return found
 
     def calls_at(self, base, added):
