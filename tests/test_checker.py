@@ -135,7 +135,14 @@ class KindsTest(Checks):
         other = opposite(("within", DOWN, poly))
         self.assertEqual(list(other[2]), [(0,), (1,)])
         other[2].clear()
-        self.assertEqual(poly, {(1,): 2, (0,): 1})
+        self.assertEqual((poly, list(poly)), ({(1,): 2, (0,): 1}, [(1,), (0,)]))
+        # Dicts in papers, and in claims, are not changed.
+        takes(("within", DOWN, poly), (HELD, SUMS, TREE, sizing(DOWN, HELD)))
+        takes(("beyond", DOWN, poly), ((3,), ((0, ()),)))
+        endings = {(1, (4,)): (1, (1, ())), (1, (3,)): (0, (1, ()))}
+        made = System((("f", 1), ("g", 1)), ((0, 0, (), 2, ((1, ((0, 1),)), (0, ((0, 1, 0),))), (0,) * 4), (1, 0, (), 3, (), (0, 0))))
+        self.is_just(True, takes(("for ever", made), ("round", (4,), ((), (((0, ()), 1),), endings))))
+        self.assertEqual((list(poly), list(endings)), ([(1,), (0,)], [(1, (4,)), (1, (3,))]))
 
     def test_other_values(self):
         for claim in [("point", 1, ((0, 1),)), ("bar", 1, ((-1, 0),)), ("follows", 1, (), (1, 0)), ("escapes", 1, (), (0, 1)), ("holds", DOWN, 0, 0, (0, 1)), ("breaks", DOWN, 0, 0, (0, 1)),

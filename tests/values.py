@@ -1,4 +1,5 @@
 """Wrong values of every kind that the document names, and near misses of right ones."""
+from fallorflow.house.bench import Bench
 from fallorflow.lots.tables import Table
 from fallorflow.rules.machine import Standing
 from fallorflow.rules.system import System
@@ -23,7 +24,7 @@ def strange():
         None, True, False, "", "a", "ab cd\n\t~", "x" * 40000, (), [], {}, [0], {0: 1}, (None,), (True,), ("a",), ([],),
         10 ** 60, -10 ** 60, 10 ** 219, -10 ** 219, (10 ** 60,), (0, 10 ** 219), (0, [1]), ((0,), 1), (0, (1, {})),
         nested(100, tuple), nested(100, list), nested(100, dict), SMALL, Standing(SMALL, (3,)), (SMALL,), (0, SMALL),
-        Table([0], [(0, 1)], [1]),
+        Table([0], [(0, 1)], [1]), Bench(SMALL), (Bench(SMALL), 0),
     ]
 
 
